@@ -1,0 +1,1 @@
+"""Platelights: polarised light through plates, decided for all lights."""

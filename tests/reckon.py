@@ -1,0 +1,223 @@
+"""What the document's points say, reckoned once more with Python's own fractions, for the tests to compare with."""
+
+from fractions import Fraction
+from math import gcd, lcm
+
+
+def worth(pair):
+    """The number that a fraction stands for."""
+    return Fraction(pair[0], pair[1])
+
+
+def pair_of(number):
+    """The fraction that stands for a number."""
+    return (Fraction(number).numerator, Fraction(number).denominator)
+
+
+def numbers_of(light):
+    """The four numbers that a light stands for."""
+    return [Fraction(number, light[4]) for number in light[:4]]
+
+
+def row_of(numbers):
+    """Numbers as whole ones over one above 0, reduced."""
+    numbers = [Fraction(number) for number in numbers]
+    below = lcm(*[number.denominator for number in numbers])
+    row = [int(number * below) for number in numbers] + [below]
+    return tuple([number // gcd(*row) for number in row])
+
+
+def table_of_numbers(rows):
+    """The table of sixteen numbers."""
+    row = row_of([number for line in rows for number in line])
+    return (tuple([row[4 * at:4 * at + 4] for at in range(4)]), row[16])
+
+
+def rows_of(table):
+    """The sixteen numbers that a table stands for."""
+    return [[Fraction(number, table[1]) for number in row] for row in table[0]]
+
+
+def dot(row, other):
+    return sum(one * two for one, two in zip(row, other))
+
+
+def led(rows, numbers):
+    return [dot(row, numbers) for row in rows]
+
+
+def multiplied(rows, other):
+    return [[dot(row, [line[at] for line in other]) for at in range(len(other))] for row in rows]
+
+
+def product(one, two):
+    """The product of two rows of four numbers."""
+    return one[0] * two[0] - one[1] * two[1] - one[2] * two[2] - one[3] * two[3]
+
+
+def is_light_row(numbers):
+    """Whether four numbers are those of a light."""
+    return numbers[0] >= 0 and product(numbers, numbers) >= 0
+
+
+def shares_of_turn(turn):
+    """The three columns to which a turn leads (Q, U, V), by products of quaternions."""
+    def times(p, q):
+        return (
+            p[0] * q[0] - p[1] * q[1] - p[2] * q[2] - p[3] * q[3],
+            p[0] * q[1] + p[1] * q[0] + p[2] * q[3] - p[3] * q[2],
+            p[0] * q[2] + p[2] * q[0] + p[3] * q[1] - p[1] * q[3],
+            p[0] * q[3] + p[3] * q[0] + p[1] * q[2] - p[2] * q[1],
+        )
+    back = (turn[0], -turn[1], -turn[2], -turn[3])
+    size = sum(number * number for number in turn)
+    columns = []
+    for unit in ((0, 1, 0, 0), (0, 0, 1, 0), (0, 0, 0, 1)):
+        whole = times(times(turn, unit), back)
+        columns.append([Fraction(number, size) for number in whole[1:]])
+    return columns
+
+
+def rows_of_turn(turn):
+    """The sixteen numbers of a turner."""
+    columns = [[1, 0, 0, 0]] + [[0] + column for column in shares_of_turn(turn)]
+    return [[Fraction(column[at]) for column in columns] for at in range(4)]
+
+
+def rows_of_setting(a, b):
+    """The sixteen numbers of a magnet."""
+    size = Fraction(a * a + b * b)
+    c, s = (b * b - a * a) / size, 2 * a * b / size
+    return [[1, 0, 0, 0], [0, c, -s, 0], [0, s, c, 0], [0, 0, 0, 1]]
+
+
+def rows_of_partial(kind, f, g):
+    k = [Fraction(number, kind[3]) for number in kind[:3]]
+    a, b = (f * f + g * g) / 2, (f * f - g * g) / 2
+    rows = [[a] + [b * number for number in k]]
+    for at in range(3):
+        rows.append([b * k[at]] + [(f * g if at == place else 0) + (a - f * g) * k[at] * k[place] for place in range(3)])
+    return rows
+
+
+def diagonal(*numbers):
+    return [[numbers[at] if at == place else Fraction(0) for place in range(4)] for at in range(4)]
+
+
+def rows_of_plate(plate):
+    """The sixteen numbers of a plate, as point [13] tells them."""
+    word = plate[0]
+    if word == "polariser":
+        k = [Fraction(1)] + [Fraction(number, plate[1][3]) for number in plate[1][:3]]
+        return [[one * two / 2 for two in k] for one in k]
+    if word == "partial":
+        return rows_of_partial(plate[1], worth(plate[2]), worth(plate[3]))
+    if word == "turner":
+        return rows_of_turn(plate[1])
+    if word == "magnet":
+        return rows_of_setting(*plate[1])
+    if word == "grey":
+        return diagonal(*[worth(plate[1])] * 4)
+    if word == "dull":
+        return diagonal(Fraction(1), *[worth(plate[1])] * 3)
+    if word == "glass":
+        return diagonal(1, 1, 1, -1)
+    a, b = plate[1]
+    back = (a, b) if b == 0 else (-a, b)
+    return multiplied(multiplied(rows_of_setting(a, b), rows_of_plate(plate[2])), rows_of_setting(*back))
+
+
+def rows_of_stack(stack):
+    """The sixteen numbers of a stack."""
+    rows = diagonal(1, 1, 1, 1)
+    for plate in stack:
+        rows = multiplied(rows_of_plate(plate), rows)
+    return rows
+
+
+# Matrices and amplitudes: Python's complex numbers are exact here, as their parts are small whole numbers.
+
+def complex_of(gaussian):
+    return complex(gaussian[0], gaussian[1])
+
+
+def complex_matrix(matrix):
+    return [[complex_of(one) for one in row] for row in matrix]
+
+
+def starred(matrix):
+    """A matrix turned over and conjugated."""
+    return [[matrix[at][place].conjugate() for at in range(len(matrix))] for place in range(len(matrix[0]))]
+
+
+SPINS = ([[1, 0], [0, 1]], [[1, 0], [0, -1]], [[0, 1], [1, 0]], [[0, -1j], [1j, 0]])
+
+
+def exact(number):
+    """A complex number without an imaginary part, which is a whole number or a half, as a fraction."""
+    assert number.imag == 0 and abs(number.real) < 2 ** 50
+    return Fraction(number.real)
+
+
+def rows_of_matrix(matrix):
+    """The sixteen numbers of a matrix, by traces."""
+    j = complex_matrix(matrix)
+    rows = []
+    for spin in SPINS:
+        wholes = [multiplied(multiplied(multiplied(spin, j), other), starred(j)) for other in SPINS]
+        rows.append([exact(whole[0][0] + whole[1][1]) / 2 for whole in wholes])
+    return rows
+
+
+def companion_entry(rows, at, place):
+    """A number of the companion, its two parts, as point [17] tells it: by blocks of blocks."""
+    def block(row):
+        m0, m1, m2, m3 = row
+        return [[(m0 + m1, 0), (m2, m3)], [(m2, -m3), (m0 - m1, 0)]]
+    r = [block(row)[at % 2][place % 2] for row in rows]
+    if at // 2 == place // 2:
+        side = 1 if at // 2 == 0 else -1
+        return (r[0][0] + side * r[1][0], r[0][1] + side * r[1][1])
+    side = -1 if at // 2 == 0 else 1
+    # i times (x, y) is (-y, x).
+    return (r[2][0] - side * r[3][1], r[2][1] + side * r[3][0])
+
+
+def weight_of(rows, row):
+    """The weight of a row of four Gaussians under the companion of sixteen numbers."""
+    total, rest = Fraction(0), Fraction(0)
+    for at in range(4):
+        for place in range(4):
+            (x, y), (p, q), (r, s) = row[at], companion_entry(rows, at, place), row[place]
+            # (x - i y) (p + i q) (r + i s)
+            u, v = x * p + y * q, x * q - y * p
+            total += u * r - v * s
+            rest += u * s + v * r
+    assert rest == 0
+    return total
+
+
+def sum_of_parts(parts):
+    """The sixteen numbers of matrices times fractions."""
+    whole = diagonal(0, 0, 0, 0)
+    for matrix, part in parts:
+        rows = rows_of_matrix(matrix)
+        whole = [[one + worth(part) * two for one, two in zip(line, row)] for line, row in zip(whole, rows)]
+    return whole
+
+
+def compared_with_root(number, sign, square):
+    """-1, 0 or 1, as a number is less than, equal to, greater than sign times the root of a square."""
+    def size(value):
+        return (value > 0) - (value < 0)
+    if sign == 0 or square == 0:
+        return size(number)
+    if size(number) != sign:
+        return size(number) or -sign
+    return sign * size(number * number - square)
+
+
+def compared_with_surd(number, surd):
+    """-1, 0 or 1, as a number is less than, equal to, greater than a surd."""
+    part, sign, square = surd
+    return compared_with_root(number - worth(part), sign, worth(square))

@@ -1,0 +1,68 @@
+"""The interface: names, arguments, and where each function is defined."""
+
+import importlib
+import inspect
+import unittest
+from pathlib import Path
+
+INTERFACE = {
+    "fractions": {
+        "is_fraction": "value", "is_surd": "value", "fraction_of": "p q", "surd_of": "part factor square",
+        "compare": "surd other", "nearest": "surd digits",
+    },
+    "lights": {
+        "is_light": "value", "is_kind": "value", "is_look": "value", "read_level": "look light",
+        "light_of": "numbers below", "added": "light other", "times": "light part", "purity": "light",
+        "kind_of": "light", "pure_light": "kind", "opposite_kind": "kind", "lens": "x y below",
+        "product": "light other", "split": "light kind",
+    },
+    "tables": {
+        "is_table": "value", "table_of": "rows below", "unit": "", "table_sum": "table other",
+        "table_product": "table other", "table_times": "table part", "led_numbers": "table light",
+        "led_light": "table light", "greatest_share": "table", "least_share": "table", "brightens": "table",
+        "table_from": "images", "tell_table": "lights", "is_told": "lights light",
+    },
+    "plates": {
+        "is_plate": "value", "is_stack": "value", "table_of_plate": "plate", "table_of_stack": "stack",
+        "through": "stack light", "are_alike": "stack other", "parting_light": "stack other",
+    },
+    "amplitudes": {
+        "light_of_amplitude": "amplitude", "amplitude_of": "light", "led_amplitude": "matrix amplitude",
+        "matrix_product": "matrix other", "table_of_matrix": "matrix", "is_pure_table": "table", "matrix_of": "table",
+    },
+    "keepers": {
+        "companion": "table", "weight": "table row", "is_made": "table", "made_rank": "table", "parts_of": "table",
+        "barring_row": "table", "keeps_lights": "table", "lost_light": "table",
+    },
+    "turns": {
+        "is_turn": "value", "turn_along": "numbers", "turn_about": "kind setting", "joined_turns": "turn other",
+        "turn_back": "turn", "turn_times": "turn many", "turned_light": "light turn", "turned_kind": "kind turn",
+        "turn_cosine": "turn", "turn_order": "turn", "kept_kinds": "turn", "turn_of_table": "table",
+        "two_halves": "turn", "linear_and_round": "turn",
+    },
+}
+
+
+class InterfaceTest(unittest.TestCase):
+
+    def test_each_function_is_defined_where_it_is_listed(self):
+        for module, functions in INTERFACE.items():
+            found = importlib.import_module("platelights." + module)
+            for name, parameters in functions.items():
+                with self.subTest(module=module, name=name):
+                    function = getattr(found, name)
+                    self.assertEqual(function.__module__, found.__name__)
+                    signature = inspect.signature(function)
+                    self.assertEqual(list(signature.parameters), parameters.split())
+                    for parameter in signature.parameters.values():
+                        self.assertEqual(parameter.kind, parameter.POSITIONAL_OR_KEYWORD)
+                        self.assertIs(parameter.default, parameter.empty)
+
+    def test_each_module_can_be_imported_alone(self):
+        folder = Path(__file__).parent.parent / "platelights"
+        for file in sorted(folder.glob("*.py")):
+            importlib.import_module("platelights." + file.stem if file.stem != "__init__" else "platelights")
+
+
+if __name__ == "__main__":
+    unittest.main()
