@@ -56,12 +56,9 @@ def _unit_row(index, one):
 def _row_below_left(left):
     """A row to which a form without numbers above 0 on its diagonal gives a weight below 0; None if it is 0."""
     for index, line in enumerate(left):
-        if line[index][0] < 0:
-            return _unit_row(index, (1, 0))
-    for index, line in enumerate(left):
         for place, entry in enumerate(line):
             if entry != NOUGHT:
-                # The diagonal is 0, so the weight is twice that of the mixed terms: -2 times the square of the entry.
+                # The mixed terms give minus twice the square of the entry's length, the diagonal nothing above 0.
                 row = _unit_row(index, taken(entry, -1))
                 row[place] = (1, 0)
                 return row

@@ -1,6 +1,7 @@
 """What the tests share: wrong values, and a case that checks arguments one by one."""
 
 import inspect
+import signal
 import unittest
 
 
@@ -60,7 +61,22 @@ class Argument:
 
 
 class Case(unittest.TestCase):
-    """A test case that checks errors to the letter."""
+    """A test case that checks errors to the letter, and that fails when it does not come to an end."""
+
+    LONGEST = 120
+
+    def setUp(self):
+        signal.signal(signal.SIGALRM, self.give_up)
+        signal.alarm(self.LONGEST)
+
+    def tearDown(self):
+        signal.alarm(0)
+
+    def give_up(self, number, frame):
+        """Fail a test that has run for many times as long as it should."""
+        # A failed subtest does not end its test, so the next one must be given up, too.
+        signal.alarm(5)
+        self.fail("this test does not come to an end")
 
     def refuses(self, error, attribute, worth, call):
         """Check that a call raises just this error, that it keeps this worth, and nothing else."""
