@@ -380,6 +380,20 @@ class KeepersTest(Case):
         for x, y in (((1, 1, 1, 0), (2, 0, 1, 0)), ((2, 0, 1, 0), (1, 1, 1, 0)), ((10 ** 20, 10 ** 20, 1, 0), (1, 0, 0, 0))):
             self.check_loses(halves(x, y, 1))
 
+    def test_tables_of_numbers_with_many_figures(self):
+        draw = Draw(12)
+        most = 10 ** 40
+        for _ in range(2):
+            stack = []
+            for _ in range(4):
+                stack += [("partial", draw.kind(most), draw.share(most), draw.share(most)), ("turner", draw.turn(most))]
+            table = table_of_stack(tuple(stack[:7]) + (("dull", (BIG - 1, BIG)),))
+            self.assertGreater(table[1], 10 ** 500)
+            self.check_keeps(table)
+            self.assertEqual(made_rank(table), 4)
+            self.check_keeps(table_product(table, GLASS))
+            self.check_loses(table_sum(table_product(table, GLASS), table_times(LEVEL, (-1, 1))))
+
     def test_tables_drawn_by_chance(self):
         draw = Draw(11)
         seen = {True: 0, False: 0}
