@@ -9,7 +9,7 @@ from platelights.turns import is_turn, turn_back, turn_table
 from platelights.wholes import first_wrong
 
 _MOST_PLATES = 8
-_TELLING_LIGHTS = ((1, 0, 0, 0, 1), (1, 1, 0, 0, 1), (1, 0, 1, 0, 1), (1, 0, 0, 1, 1))
+TELLING_LIGHTS = ((1, 0, 0, 0, 1), (1, 1, 0, 0, 1), (1, 0, 1, 0, 1), (1, 0, 0, 1, 1))
 
 
 def _is_share(value):
@@ -148,7 +148,7 @@ def parting_light(stack, other):
     check_stack(stack)
     check_stack(other)
     table, other_table = table_of_stack(stack), table_of_stack(other)
-    for light in _TELLING_LIGHTS:
+    for light in TELLING_LIGHTS:
         if led_numbers(table, light) != led_numbers(other_table, light):
             return light
     return None

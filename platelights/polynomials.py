@@ -28,13 +28,18 @@ def polynomial_product(one, two):
     return trimmed(whole)
 
 
-def sign_at(polynomial, point):
-    """The sign of a polynomial at a fraction."""
+def value_at(polynomial, point):
+    """The worth of a polynomial at a fraction p / q, times q to the power of its degree: that of a form at (p, q)."""
     total, power = 0, 1
     for number in reversed(polynomial):
         total = total * point[0] + number * power
         power *= point[1]
-    return sign_of(total)
+    return total
+
+
+def sign_at(polynomial, point):
+    """The sign of a polynomial at a fraction."""
+    return sign_of(value_at(polynomial, point))
 
 
 def _derivative(polynomial):
@@ -109,7 +114,7 @@ def _half_with_root(rows, stretch):
 
 
 def stretches_of_roots(rows, whole):
-    """Stretches with one root each, for all roots in a stretch."""
+    """Stretches with one root each, for all roots in a stretch, ascending."""
     waiting, found = [whole], []
     while len(waiting) > 0:
         stretch = waiting.pop()
@@ -118,8 +123,27 @@ def stretches_of_roots(rows, whole):
             found.append(stretch)
         elif many > 1:
             middle = middle_of(stretch[0], stretch[1])
-            waiting.append((stretch[0], middle))
             waiting.append((middle, stretch[1]))
+            waiting.append((stretch[0], middle))
+    return found
+
+
+def root_bound(polynomial):
+    """A whole number above the sizes of all roots of a polynomial that is not 0."""
+    return max([abs(number) for number in polynomial]) // abs(polynomial[-1]) + 2
+
+
+def stretches_apart(polynomial, whole):
+    """Stretches with one root each, ascending, for all roots in a stretch; the polynomial is not 0 at their low ends.
+
+    So the low end of each but the first stretch lies between two roots.
+    """
+    rows = sturm_rows(polynomial)
+    found = []
+    for stretch in stretches_of_roots(rows, whole):
+        while sign_at(polynomial, stretch[0]) == 0:
+            stretch = _half_with_root(rows, stretch)
+        found.append(stretch)
     return found
 
 

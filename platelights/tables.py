@@ -1,11 +1,12 @@
 """Tables of sixteen numbers, and what they make of lights."""
 
+from platelights.equations import rank_of
 from platelights.errors import InvalidImages, InvalidRows, InvalidTable, NoLight
 from platelights.fractions import check_below, check_fraction, compare, surd_of
 from platelights.lights import check_light, check_lights, is_light
 from platelights.ratios import ratio
 from platelights.wholes import columns_of, combined, divisor_of, dot, first_wrong, is_reduced_row, is_row, is_whole
-from platelights.wholes import rank_of, reduced, rows_product
+from platelights.wholes import reduced, rows_product
 
 _UNIT_ROWS = ((1, 0, 0, 0), (0, 1, 0, 0), (0, 0, 1, 0), (0, 0, 0, 1))
 _ONE = ((1, 1), 0, (0, 1))

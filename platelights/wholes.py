@@ -60,19 +60,6 @@ def rows_product(rows, other):
     return tuple([tuple([dot(row, column) for column in columns]) for row in rows])
 
 
-def rank_of(rows):
-    """The dimension of the space that rows of one length span."""
-    left = list(rows)
-    rank = 0
-    for at in range(len(rows[0]) if len(rows) > 0 else 0):
-        pivots = [row for row in left if row[at] != 0]
-        if len(pivots) > 0:
-            pivot = pivots[0]
-            left = [reduced(combined(pivot[at], row, -row[at], pivot)) for row in left]
-            rank += 1
-    return rank
-
-
 def first_wrong(things, is_right, most):
     """The index of the first thing that is not right, or is one too many; None if there is none."""
     for index, thing in enumerate(things):

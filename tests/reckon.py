@@ -221,3 +221,40 @@ def compared_with_surd(number, surd):
     """-1, 0 or 1, as a number is less than, equal to, greater than a surd."""
     part, sign, square = surd
     return compared_with_root(number - worth(part), sign, worth(square))
+
+
+def rank(rows):
+    """The dimension of the space that rows span, by steps of Gauss."""
+    rows, found = [[Fraction(number) for number in row] for row in rows], 0
+    for at in range(len(rows[0]) if rows else 0):
+        pivot = next((row for row in rows[found:] if row[at] != 0), None)
+        if pivot is not None:
+            rows.remove(pivot)
+            rows = [[one - row[at] / pivot[at] * two for one, two in zip(row, pivot)] for row in rows]
+            rows.insert(0, pivot)
+            found += 1
+    return found
+
+
+def level_of(course, setting):
+    """The level of a course at a setting, as point [25] tells it."""
+    f0, f1, f2, f3, f4, d = course
+    a, b = setting
+    above = f0 * b ** 4 + f1 * a * b ** 3 + f2 * a ** 2 * b ** 2 + f3 * a ** 3 * b + f4 * a ** 4
+    return Fraction(above, d * (a * a + b * b) ** 2)
+
+
+def double_of(setting):
+    """The cosine and the sine of twice the angle of a setting."""
+    a, b = setting
+    return Fraction(b * b - a * a, a * a + b * b), Fraction(2 * a * b, a * a + b * b)
+
+
+def swing_of(light):
+    """The last three numbers that a light stands for."""
+    return numbers_of(light)[1:]
+
+
+def upright(one, two):
+    """The cross product of two triples."""
+    return [one[1] * two[2] - one[2] * two[1], one[2] * two[0] - one[0] * two[2], one[0] * two[1] - one[1] * two[0]]

@@ -40,6 +40,30 @@ INTERFACE = {
         "turn_cosine": "turn", "turn_order": "turn", "kept_kinds": "turn", "turn_of_table": "table",
         "two_halves": "turn", "linear_and_round": "turn",
     },
+    "leads": {
+        "leading": "light other", "is_fitting": "pairs turn", "fitting_turn": "pairs", "turns_that_fit": "pairs",
+        "sure_image": "pairs light", "bar_to_turn": "pairs",
+    },
+    "courses": {
+        "is_course": "value", "course_of": "numbers below", "level_at": "course setting", "level_course": "level",
+        "course_less": "course other", "turned_course": "course setting", "course_parts": "course",
+        "course_of_parts": "parts", "course_through": "samples", "setting_sum": "setting other",
+        "setting_back": "setting",
+    },
+    "rigs": {
+        "is_rig": "value", "stack_at": "rig setting", "course_of_rig": "rig light look", "is_idle": "rig",
+        "same_rigs": "rig other", "parting_setting": "rig other", "rig_rank": "rig look",
+        "light_of_course": "rig look course",
+    },
+    "angles": {
+        "compare_least": "course level", "compare_greatest": "course level", "angles_with": "course level",
+        "setting_below": "course level", "setting_above": "course level", "level_tale": "course level",
+        "swing_tale": "course", "tops": "course", "compare_courses": "course other", "square_number": "course",
+    },
+    "backs": {
+        "plate_back": "plate", "stack_back": "stack", "is_reciprocal": "stack", "ways": "stack",
+        "round_table": "stack", "returns": "stack", "round_turn": "turn",
+    },
 }
 
 

@@ -182,3 +182,21 @@ class Draw:
 
     def stack(self, most=8):
         return tuple([self.plate() for _ in range(self.chance.randint(0, most))])
+
+LAMP = (2, 1, 0, 1, 3)
+WRONG_PAIRS = list(STRANGE) + [
+    0, (), (LAMP,), (LAMP, LAMP, LAMP), [LAMP, LAMP], (LAMP, None), (None, LAMP), (LAMP, list(LAMP)), LAMP,
+    (LAMP, PRICKLY), (LAMP, (2, 0, 0, 0, 2)), ((1, 2, 0, 0, 1), LAMP), (LAMP, (True, 0, 0, 0, 1)), ((LAMP, LAMP),),
+]
+WRONG_COURSES = list(STRANGE) + wrong_rows((1, 0, -1, 2, 0, 3)) + [
+    0, (1, 0, 1, 0, 0, 0), (1, 0, 1, 0, 0, -1), (2, 0, 2, 0, 0, 2), (0, 0, 0, 0, 0, 2), (0, 0, 0, 0, 0, 0),
+    (1, 0, 1, 0, 0), (1, 0, 1, 0, 0, 1, 1), (0, 0, 0, 0, 0, -1), (BIG, 0, 0, 0, 0, BIG),
+]
+WRONG_RIGS = list(STRANGE) + [
+    0, (), ((), ALONG), ((), ALONG, (), ()), [(), ALONG, ()], (ALONG, ALONG, ALONG), ((), (ALONG,), ()), ((), (), ()),
+    ([], ALONG, ()), ((), ALONG, []), ((), ALONG, None), (None, ALONG, ()), ((), None, ()), ((), PRICKLY, ()),
+    ((PRICKLY,), ALONG, ()), ((), ALONG, (PRICKLY,)), ((("grey", (3, 2)),), ALONG, ()), ((), ("grey", (3, 2)), ()),
+    ((), ALONG, (("grey", (2, 4)),)), ((ALONG,) * 8, ALONG, ()), ((), ALONG, (ALONG,) * 8), ((ALONG,) * 9, ALONG, ()),
+    ((ALONG,) * 4, ALONG, (ALONG,) * 4), ((ALONG,) * 7, ALONG, (ALONG,)), (ALONG, (), ()), ((), list(ALONG), ()),
+    ((), ("set", (0, 1), ("set", (0, 1), ALONG)), ()), (PRICKLY, PRICKLY, PRICKLY), ((ALONG,), (), (ALONG,)),
+]
