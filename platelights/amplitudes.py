@@ -1,8 +1,8 @@
 """Amplitudes and matrices of Gaussians, their lights and tables."""
 
 from platelights.errors import InvalidAmplitude, InvalidMatrix
-from platelights.gaussians import NOUGHT, conjugated, gaussian_dot, gaussian_product, gaussian_sum, is_gaussian_row
-from platelights.gaussians import multiplied
+from platelights.gaussians import NOUGHT, adjoint, conjugated, gaussian_dot, gaussian_product, is_gaussian_row
+from platelights.gaussians import multiplied, trace_of
 from platelights.keepers import parts_of
 from platelights.lights import kind_of
 from platelights.ratios import ratio
@@ -76,24 +76,18 @@ def matrix_product(matrix, other):
     return gaussian_product(matrix, other)
 
 
-def _turned_over(matrix):
-    """A matrix turned over and conjugated."""
-    (x, y), (z, w) = matrix
-    return ((conjugated(x), conjugated(z)), (conjugated(y), conjugated(w)))
-
-
-def _trace_of_product(one, two):
-    """The first part of the trace of the product of two matrices."""
-    whole = gaussian_product(one, two)
-    return gaussian_sum((whole[0][0], whole[1][1]))[0]
+def light_matrix(light):
+    """The matrix of a light, of which the numbers are over twice those of the light."""
+    i, q, u, v, _ = light
+    return (((i + q, 0), (u, -v)), ((u, v), (i - q, 0)))
 
 
 def table_of_matrix(matrix):
     """The table of a matrix."""
     check_matrix(matrix)
-    back = _turned_over(matrix)
+    back = adjoint(matrix)
     led = [gaussian_product(gaussian_product(matrix, spin), back) for spin in _SPINS]
-    return reduced_table([[_trace_of_product(spin, image) for image in led] for spin in _SPINS], 2)
+    return reduced_table([[trace_of(gaussian_product(spin, image))[0] for image in led] for spin in _SPINS], 2)
 
 
 def matrix_of(table):

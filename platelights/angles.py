@@ -3,9 +3,12 @@
 A course less a level, and the swing of a course, is a form of five whole numbers in the two numbers of a setting.
 """
 
+from math import isqrt
+
 from platelights.courses import check_course, course_less
 from platelights.fractions import check_fraction
 from platelights.polynomials import root_bound, sign_at, stretches_apart, trimmed
+from platelights.ratios import ratio
 from platelights.wholes import combined, sign_of
 
 _ROUND = (1, 0, 2, 0, 1)
@@ -149,10 +152,12 @@ def square_number(course):
     if compare_least(course, (0, 1)) <= 0:
         return None
     numbers = course[:5]
-    determinant = _determinant(numbers)
-    bound = root_bound(determinant)
-    # The fractions that do it are those between two neighbouring roots of the determinant.
-    for low, _ in stretches_apart(determinant, ((-bound, 1), (bound, 1))):
-        if min(_minors(numbers, low)) > 0:
-            return low
-    return None
+    f0, f1, f2, f3, f4 = numbers
+    # The fractions that do it lie between the two least roots of the determinant, which has its lower still point,
+    # (f2 less the root of this square) / 6, between them: what is near enough to it is a right one.
+    square, scale = f2 * f2 - 3 * f1 * f3 + 12 * f0 * f4, 2
+    t = ratio(scale * f2 - isqrt(scale * scale * square), 6 * scale)
+    while min(_minors(numbers, t)) <= 0:
+        scale *= scale
+        t = ratio(scale * f2 - isqrt(scale * scale * square), 6 * scale)
+    return t

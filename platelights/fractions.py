@@ -39,6 +39,17 @@ def check_positive_fraction(value):
         raise InvalidFraction(value)
 
 
+def is_share(value):
+    """Whether a value is a fraction from 0 to 1."""
+    return is_fraction(value) and 0 <= value[0] <= value[1]
+
+
+def check_share(value):
+    """Raise an error for what is no fraction from 0 to 1."""
+    if not is_share(value):
+        raise InvalidFraction(value)
+
+
 def check_whole(value):
     """Raise an error for what is no whole number."""
     if not is_whole(value):

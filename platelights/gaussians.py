@@ -51,6 +51,16 @@ def gaussian_product(rows, other):
     return tuple([tuple([gaussian_dot(row, column) for column in columns]) for row in rows])
 
 
+def adjoint(rows):
+    """A square table of Gaussians turned over and conjugated."""
+    return tuple([conjugated_row([row[at] for row in rows]) for at in range(len(rows))])
+
+
+def trace_of(rows):
+    """The sum of the diagonal of a square table of Gaussians."""
+    return gaussian_sum([row[at] for at, row in enumerate(rows)])
+
+
 def gaussian_divisor(row):
     """The greatest whole number that divides all parts of a row of Gaussians, 0 if all are 0."""
     return divisor_of([divisor_of(one) for one in row])

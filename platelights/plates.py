@@ -1,7 +1,7 @@
 """Plates and stacks of plates, and what they do to lights."""
 
 from platelights.errors import InvalidPlate, InvalidStack
-from platelights.fractions import is_fraction
+from platelights.fractions import is_share
 from platelights.lights import check_light, is_kind
 from platelights.settings import is_setting
 from platelights.tables import led_light, led_numbers, reduced_table, table_product, unit
@@ -10,11 +10,6 @@ from platelights.wholes import first_wrong
 
 _MOST_PLATES = 8
 TELLING_LIGHTS = ((1, 0, 0, 0, 1), (1, 1, 0, 0, 1), (1, 0, 1, 0, 1), (1, 0, 0, 1, 1))
-
-
-def _is_share(value):
-    """Whether a value is a fraction from 0 to 1."""
-    return is_fraction(value) and 0 <= value[0] <= value[1]
 
 
 def _has_word(value):
@@ -30,7 +25,7 @@ def _is_bare_plate(value):
     if word == "glass":
         return len(parts) == 0
     if word == "partial":
-        return len(parts) == 3 and is_kind(parts[0]) and _is_share(parts[1]) and _is_share(parts[2])
+        return len(parts) == 3 and is_kind(parts[0]) and is_share(parts[1]) and is_share(parts[2])
     if len(parts) != 1:
         return False
     if word == "polariser":
@@ -39,7 +34,7 @@ def _is_bare_plate(value):
         return is_turn(parts[0])
     if word == "magnet":
         return is_setting(parts[0])
-    return word in ("grey", "dull") and _is_share(parts[0])
+    return word in ("grey", "dull") and is_share(parts[0])
 
 
 def is_plate(value):

@@ -331,6 +331,13 @@ class AnglesTest(Case):
             self.gives(tale, level_tale, course, (1, 3))
             self.assertEqual(tale.count("at"), angles_with(course, (1, 3)))
             self.assertIn(swing_tale(course).count("still"), (2, 4))
+        # Courses of squares of five figures times as long, just above 0, at 0 and just below it.
+        far = 10 ** 200
+        for side, signs in ((1, [1]), (0, [1, 0, 1, 0, 1]), (-1, [1, 0, -1, 0, 1, 0, -1, 0, 1])):
+            numbers = [one + side * two for one, two in zip((far, -10 * far, 27 * far, -10 * far, far), (1, 0, 2, 0, 1))]
+            self.check_signs(course_of(tuple(numbers), 7), (0, 1), signs)
+            if side == 1:
+                self.check_square_number(course_of(tuple(numbers), 7))
 
     def test_wrong_arguments(self):
         a_course = Argument("course", MALUS, InvalidCourse, WRONG_COURSES)

@@ -64,6 +64,22 @@ INTERFACE = {
         "plate_back": "plate", "stack_back": "stack", "is_reciprocal": "stack", "ways": "stack",
         "round_table": "stack", "returns": "stack", "round_turn": "turn",
     },
+    "rounds": {
+        "after_rounds": "stack light many", "dark_after": "stack light", "mean_light": "stack light",
+        "last_level": "stack light", "fades": "stack light", "all_fade": "stack", "unchanged_light": "stack",
+        "unchanged_span": "stack", "comes_back": "stack light", "echo": "stack light",
+    },
+    "fans": {"row_share": "kinds", "fan_table": "plate setting many"},
+    "beams": {
+        "beam_light": "one two light phase", "beam_level": "one two light phase", "fringe": "one two light",
+        "has_fringes": "one two light", "contrast_square": "one two light", "brightest": "one two light",
+        "level_ends": "one two light", "times_at": "one two light level", "ring": "one two light",
+    },
+    "fringes": {
+        "never_fringes": "one two", "plain_fringes": "one two", "fringeless": "one two",
+        "fringes_behind": "one two light", "at_most": "one two share", "sharper": "one two share",
+        "blunt_phases": "one two",
+    },
 }
 
 

@@ -14,7 +14,7 @@ from tests.values import WRONG_SETTINGS, Draw, reduced
 
 WHOLE = (1, 0, 0, 0)
 ONE, CROSSED = ((), ALONG, ()), ((ALONG,), ("turner", (0, 1, 0, 0)), (UPRIGHT,))
-QUARTER = ((), ("turner", (1, 1, 0, 0)), (ALONG,))
+QUARTER, SLANT_QUARTER = [((), ("turner", (1, 1, 0, 0)), (last,)) for last in (ALONG, SLANT)]
 MALUS = (1, 0, 1, 0, 0, 1)
 NOUGHT = (0, 0, 0, 0, 0, 1)
 SETTINGS = ((0, 1), (1, 0), (1, 1), (-1, 1), (1, 2), (3, 1), (-2, 5), (7, 3), (-5, 1), (1, 9), (4, 7), (-3, 4))
@@ -72,7 +72,8 @@ class RigsTest(Case):
     def test_stacks_at_settings(self):
         self.gives((("set", (0, 1), ALONG),), stack_at, ONE, (0, 1))
         self.gives((("set", (1, 0), ALONG),), stack_at, ONE, (1, 0))
-        self.gives((SLANT, ("set", (-1, 2), ("glass",)), UPRIGHT, SLANT), stack_at, ((SLANT,), ("glass",), (UPRIGHT, SLANT)), (-1, 2))
+        around = ((SLANT,), ("glass",), (UPRIGHT, SLANT))
+        self.gives((SLANT, ("set", (-1, 2), ("glass",)), UPRIGHT, SLANT), stack_at, around, (-1, 2))
         set_one = ((UPRIGHT,), ("set", (2, 1), ("magnet", (1, 3))), (SLANT,))
         self.gives((UPRIGHT, ("set", (-4, 3), ("magnet", (1, 3))), SLANT), stack_at, set_one, (2, 1))
         self.gives((UPRIGHT, ("set", (2, 1), ("magnet", (1, 3))), SLANT), stack_at, set_one, (0, 1))
@@ -178,7 +179,7 @@ class RigsTest(Case):
             (0, DARK_RIG, WHOLE), (0, ((), ALONG, (ALONG,)), (1, -1, 0, 0)), (0, ((), ("grey", (0, 1)), ()), WHOLE),
             (1, ((), ("glass",), ()), WHOLE), (1, ((), ("glass",), ()), (2, 1, 0, 1)), (1, ((ALONG,), SLANT, ()), WHOLE),
             (1, ((("dull", (0, 1)),), ALONG, ()), WHOLE), (1, around, WHOLE), (1, around, (1, 1, 0, 0)),
-            (3, ONE, WHOLE), (4, QUARTER, WHOLE),
+            (3, ONE, WHOLE), (4, QUARTER, WHOLE), (3, ((), ALONG, (UPRIGHT,)), WHOLE), (4, SLANT_QUARTER, WHOLE),
         ):
             self.assertEqual(self.rank_of(told, how), many, (told, how))
             self.gives(many, rig_rank, told, how)
@@ -204,7 +205,8 @@ class RigsTest(Case):
             self.gives(light, light_of_course, told, how, course)
         self.assertGreater(full, 9)
         for light in ((0, 0, 0, 0, 1), (1, 0, 0, 0, 1), (5, 3, 0, 4, 7), (BIG, 1, 2, 3, 7)):
-            self.gives(light, light_of_course, QUARTER, WHOLE, course_of_rig(QUARTER, light, WHOLE))
+            for told in (QUARTER, SLANT_QUARTER):
+                self.gives(light, light_of_course, told, WHOLE, course_of_rig(told, light, WHOLE))
 
     def test_courses_of_no_light(self):
         # What is more swing than light, or less than no light, comes from four numbers that are no light.
