@@ -109,10 +109,10 @@ def _joined_row(form, lower, upper, mu):
     if mu[1] * _value(form, lower, upper) > mu[0] * crossed(lower, upper):
         upper = combined(-1, upper, 0, upper)
     # All sums of the two are now below mu times the product, so close to the cone's rim the form is below 0.
-    scale = 1
+    scale = 2
     row = _stretched(lower, upper, scale)
     while _value(form, row, row) >= 0:
-        scale *= 2
+        scale *= scale
         row = _stretched(lower, upper, scale)
     return row
 
@@ -139,10 +139,27 @@ def _row_below_at_lights(form):
     return _joined_row(form, lower, upper, middle_of(low, high))
 
 
+def _near(row, parts):
+    """A row in the cone that is the nearer to another one the more parts its level is told in."""
+    swings = [(2 * parts * number + row[0]) // (2 * row[0]) for number in row[1:]]
+    size = dot(swings, swings)
+    return (max(parts, isqrt(size - 1) + 1 if size > 0 else 0), *swings)
+
+
+def _shortened(form, row):
+    """A row in the cone near to one at which a form is below 0, with few figures, at which it is so, too."""
+    parts = 1
+    near = _near(row, parts)
+    while parts < row[0] and _value(form, near, near) >= 0:
+        parts = 4 * parts * parts
+        near = _near(row, parts)
+    return near if parts < row[0] else row
+
+
 def light_below(form):
     """A light at which a form is below 0; None if there is none."""
     if is_never_below(form):
         return None
     row = _row_below_at_lights(form)
     side = -1 if row[0] < 0 else 1
-    return (*reduced([side * number for number in row]), 1)
+    return (*reduced(_shortened(form, [side * number for number in row])), 1)

@@ -103,7 +103,7 @@ def _darkened_light(row):
     level = isqrt(size) + 1
     # Along the row's opposite it is below 0; the finer the scale, the closer the light is to a pure one.
     while row[0] * level >= scale * size:
-        scale *= 2
+        scale *= 4 * scale
         level = isqrt(scale * scale * size) + 1
     numbers = reduced((level, *[-scale * number for number in row[1:]]))
     return (*numbers, 1)

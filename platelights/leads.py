@@ -4,7 +4,7 @@ from itertools import combinations
 
 from platelights.equations import rank_of
 from platelights.errors import InvalidPairs, NoTurnFits
-from platelights.lights import check_light, is_light, product
+from platelights.lights import check_light, crossed, is_light
 from platelights.tables import reduced_table
 from platelights.turns import check_turn, turn_along, turn_of_table, turned_light
 from platelights.wholes import columns_of, dot, first_wrong
@@ -68,11 +68,18 @@ def is_fitting(pairs, turn):
     return all([turned_light(before, turn) == after for before, after in pairs])
 
 
+def _have_one_product(pair, other):
+    """Whether the first lights of two pairs have the same product as the second ones."""
+    (before, after), (first, second) = pair, other
+    one, two = crossed(before[:4], first[:4]), crossed(after[:4], second[:4])
+    return one * after[4] * second[4] == two * before[4] * first[4]
+
+
 def _bar_of_products(pairs):
     """Two indexes of pairs whose lights have unlike products, if there are such."""
-    for at, (before, after) in enumerate(pairs):
+    for at, pair in enumerate(pairs):
         for place in range(at, len(pairs)):
-            if product(before, pairs[place][0]) != product(after, pairs[place][1]):
+            if not _have_one_product(pair, pairs[place]):
                 return ("product", at, place)
     return None
 

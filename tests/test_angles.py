@@ -319,6 +319,13 @@ class AnglesTest(Case):
             self.gives(None, square_number, course_of(square, 3))
         self.check_square_number(course_of(squares[3], 3))
         self.check_square_number(level_course((1, BIG)))
+        # With m m = 24 s s - 8 the form 3 s - m h h + 2 s h h h h is just above 0, and t is to be ever closer to - m / 2.
+        m, s = 4, 1
+        for _ in range(60):
+            self.check_square_number(course_of((3 * s, 0, -m, 0, 2 * s), 1))
+            self.check_square_number(turned_course(course_of((3 * s, 0, -m, 0, 2 * s), 5), (1, 2)))
+            self.gives(None, square_number, course_of((3 * s, 0, -m - 1, 0, 2 * s), 1))
+            m, s = 5 * m + 24 * s, m + 5 * s
         for course in (NOUGHT, level_course((-1, 3)), MALUS, BOTH, (0, 0, 0, 0, -1, 1), (-1, 0, -2, 0, -1, BIG)):
             self.gives(None, square_number, course)
 

@@ -135,7 +135,8 @@ class FringesTest(Case):
             (NONE, NONE, ("all",)), (WHOLE, NONE, ("all",)), (WHOLE, WHOLE, ("none",)), (LEVEL, LEVEL, ("kind", (-1, 0, 0, 1))),
             (UPRIGHT, WHOLE, ("kind", (1, 0, 0, 1))), (WHOLE, turned, ("none",)), (WHOLE, diagonal(I, (2, 1)), ("none",)),
             # B is I + U and D is 0; and I + Q and V, either way round: both are 0 at one kind alone.
-            (((I, I), (O, O)), ((I, I), (O, O)), ("kind", (0, -1, 0, 1))), (WHOLE, ((I, I), ((-1, 0), O)), ("kind", (-1, 0, 0, 1))),
+            (((I, I), (O, O)), ((I, I), (O, O)), ("kind", (0, -1, 0, 1))),
+            (WHOLE, ((I, I), ((-1, 0), O)), ("kind", (-1, 0, 0, 1))),
             (WHOLE, (((0, 1), (0, 1)), ((0, -1), O)), ("kind", (-1, 0, 0, 1))),
         ):
             self.gives(told, fringeless, one, two)
@@ -164,6 +165,15 @@ class FringesTest(Case):
         # Crosswise arms make no fringes of slanting light, but behind a slanting polariser they do.
         self.assertEqual(swing_of(LEVEL, UPRIGHT, SLANT), (0, 0))
         self.assertIn(fringes_behind(LEVEL, UPRIGHT, SLANT), ((0, 1, 0, 1), (0, 0, 1, 1)))
+        # Of the four kinds of point [42] just one brings these fringes back.
+        for two, kind in (
+            (((O, (-1, 1)), ((-1, -1), (2, 0))), (-1, 0, 0, 1)), ((((2, 0), (-1, 1)), ((-1, -1), O)), (1, 0, 0, 1)),
+            (((O, I), (I, O)), (0, 1, 0, 1)), (((O, (0, -1)), ((0, 1), O)), (0, 0, 1, 1)),
+        ):
+            self.assertNotEqual(self.swing_behind(WHOLE, two, PLAIN, kind), (0, 0))
+            told = fringes_behind(WHOLE, two, PLAIN)
+            self.assertTrue(is_kind(told))
+            self.assertNotEqual(self.swing_behind(WHOLE, two, PLAIN, told), (0, 0))
         self.gives(None, fringes_behind, LEVEL, UPRIGHT, PLAIN)
         self.gives(None, fringes_behind, LEVEL, UPRIGHT, (1, 1, 0, 0, 1))
         self.gives(None, fringes_behind, WHOLE, WHOLE, DARK)
@@ -172,7 +182,8 @@ class FringesTest(Case):
         """B and D behind a polariser, by the levels at three phases."""
         levels = []
         for turned in (1, -1, 1j):
-            whole = [[x + turned * y for x, y in zip(row, other)] for row, other in zip(complex_matrix(one), complex_matrix(two))]
+            arms = zip(complex_matrix(one), complex_matrix(two))
+            whole = [[x + turned * y for x, y in zip(row, other)] for row, other in arms]
             gaussians = tuple([tuple([(int(x.real), int(x.imag)) for x in row]) for row in whole])
             numbers = led(multiplied(rows_of_plate(("polariser", kind)), rows_of_matrix(gaussians)), numbers_of(light))
             levels.append(numbers[0])
@@ -239,14 +250,16 @@ class FringesTest(Case):
         for one, two, many in (
             (WHOLE, WHOLE, 1), (NONE, NONE, None), (WHOLE, NONE, 0), (NONE, WHOLE, 0), (LEVEL, LEVEL, None), (LEVEL, UPRIGHT, 0),
             (diagonal(a, c), diagonal(b, unit), 2), (diagonal(a, a), diagonal(b, b), 1), (diagonal(a, I), diagonal(b, (2, 0)), 1),
-            (diagonal(a, (2, 0)), diagonal(b, I), 1), (diagonal((1, 1), (2, 0)), diagonal(I, I), 0), (diagonal(I, (1, 1)), diagonal(I, (1, 1)), 1),
-            (diagonal(I, I), diagonal(I, (-1, 0)), 2), (diagonal(I, O), diagonal(I, O), None), (diagonal(I, O), diagonal(I, I), 1),
+            (diagonal(a, (2, 0)), diagonal(b, I), 1), (diagonal((1, 1), (2, 0)), diagonal(I, I), 0),
+            (diagonal(I, (1, 1)), diagonal(I, (1, 1)), 1), (diagonal(I, I), diagonal(I, (-1, 0)), 2),
+            (diagonal(I, O), diagonal(I, O), None), (diagonal(I, O), diagonal(I, I), 1),
             # Roots at z = 2 and z = 1 / 2: both ends are alike, yet no phase is blunt.
             (diagonal((2, 0), I), diagonal((-1, 0), (-2, 0)), 0), (diagonal((0, 2), (0, 1)), diagonal(I, (2, 0)), 0),
             # Squares of the lengths that are alike, told by no setting: z z = i.
             (diagonal(I, I), ((O, (0, 1)), (I, O)), 2), (diagonal((1, 1), I), diagonal((1, 1), (0, 1)), 2),
             # m is 0 and d1 is as long as d2; m alone.
-            (((I, O), (O, (0, 2))), ((O, I), ((2, 0), O)), 2), (diagonal(O, I), diagonal(I, O), 0), (LEVEL, ((O, I), (O, O)), None),
+            (((I, O), (O, (0, 2))), ((O, I), ((2, 0), O)), 2), (diagonal(O, I), diagonal(I, O), 0),
+            (LEVEL, ((O, I), (O, O)), None),
         ):
             self.gives(many, blunt_phases, one, two)
             for turn in (((I, (1, 1)), (O, I)), (((2, 0), I), (I, (0, 1)))):
