@@ -161,6 +161,16 @@ class LightFormsTest(Case):
             (self.check_kept if kept else self.check_below)(form)
         self.assertGreater(min(seen.values()), 20)
 
+    def test_lights_are_told_with_few_figures(self):
+        draw = Draw(9)
+        for swing in (1, 2, 3):
+            # Well below 0 at the pure light of this swing, but told by numbers of many figures.
+            wide = diagonal(*[BIG if at == 0 else -2 * BIG if at == swing else 0 for at in range(4)])
+            for _ in range(20):
+                form = added(wide, symmetric(draw, 10 ** 20))
+                self.check_below(form)
+                self.assertLess(max([abs(number) for number in light_below(form)]), 100)
+
 
 if __name__ == "__main__":
     unittest.main()
