@@ -147,17 +147,21 @@ def _determinant(numbers):
     return (4 * f0 * f2 * f4 - f0 * f3 * f3 - f1 * f1 * f4, 2 * f1 * f3 - 8 * f0 * f4, -4 * f2, 8)
 
 
+def _lower_still_point(numbers, scale):
+    """A fraction near the lower still point of the determinant, the nearer the greater the scale is."""
+    f0, f1, f2, f3, f4 = numbers
+    square = f2 * f2 - 3 * f1 * f3 + 12 * f0 * f4
+    return ratio(scale * f2 - isqrt(scale * scale * square), 6 * scale)
+
+
 def square_number(course):
     """A fraction t that shows a course to be above 0 at all angles; None if it is not."""
     if compare_least(course, (0, 1)) <= 0:
         return None
-    numbers = course[:5]
-    f0, f1, f2, f3, f4 = numbers
-    # The fractions that do it lie between the two least roots of the determinant, which has its lower still point,
-    # (f2 less the root of this square) / 6, between them: what is near enough to it is a right one.
-    square, scale = f2 * f2 - 3 * f1 * f3 + 12 * f0 * f4, 2
-    t = ratio(scale * f2 - isqrt(scale * scale * square), 6 * scale)
+    # The fractions that do it lie between the two least roots of the determinant, and so does its lower still point.
+    numbers, scale = course[:5], 2
+    t = _lower_still_point(numbers, scale)
     while min(_minors(numbers, t)) <= 0:
         scale *= scale
-        t = ratio(scale * f2 - isqrt(scale * scale * square), 6 * scale)
+        t = _lower_still_point(numbers, scale)
     return t
