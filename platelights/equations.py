@@ -1,4 +1,4 @@
-"""Linear equations with whole numbers: the rank of rows, and numbers that keep all equations."""
+"""Linear equations with whole numbers: the rank of rows, numbers that keep all equations, and why none do."""
 
 from math import lcm
 
@@ -45,3 +45,36 @@ def solution_of(rows, numbers):
     for at, row in steps:
         found[at] = row[width] * (below // row[at])
     return tuple(found), below
+
+
+def null_rows(rows, width):
+    """Rows of so many whole numbers, none a sum of the others, that span all with which each told row makes 0."""
+    steps, _ = _stepped(rows, width)
+    places = [place for place, _ in steps]
+    found = []
+    for at in range(width):
+        if at not in places:
+            below = 1
+            for place, row in steps:
+                below = lcm(below, row[place])
+            null = [below if place == at else 0 for place in range(width)]
+            for place, row in steps:
+                null[place] = -row[at] * (below // row[place])
+            found.append(reduced(null))
+    return found
+
+
+def odd_weights(rows, numbers):
+    """Whole numbers by which rows add up to 0 and the numbers beside them do not; None if there are none."""
+    width, many = len(rows[0]), len(rows)
+    marks = [[1 if at == place else 0 for place in range(many)] for at in range(many)]
+    _, left = _stepped([(*row, number, *mark) for row, number, mark in zip(rows, numbers, marks)], width)
+    for row in left:
+        if row[width] != 0:
+            return row[width + 1:]
+    return None
+
+
+def weights_to(rows, target):
+    """Whole numbers over one above 0 by which rows, at least one, add up to a target; None if there are none."""
+    return solution_of([[row[at] for row in rows] for at in range(len(target))], target)

@@ -6,7 +6,7 @@ from platelights.cones import is_never_below, light_below
 from platelights.equations import rank_of
 from platelights.fractions import check_share
 from platelights.gaussians import NOUGHT, adjoint, gaussian_product, gaussian_sum, multiplied, taken, trace_of
-from platelights.lights import crossed, pure_light
+from platelights.lights import crossed, mirrored, pure_light
 from platelights.tables import table_sum
 from platelights.wholes import combined, reduced, sign_of
 
@@ -38,11 +38,6 @@ def _fringe_rows(one, two):
     mixing = _mixing(one, two)
     traces = [trace_of(gaussian_product(mixing, light_matrix(light))) for light in _UNITS]
     return tuple([trace[0] for trace in traces]), tuple([-trace[1] for trace in traces])
-
-
-def _mirrored(row):
-    """The row of which the product with a light is what a row makes of it."""
-    return (row[0], -row[1], -row[2], -row[3])
 
 
 def _kind_along(row):
@@ -77,7 +72,7 @@ def _without_two(one, two):
 
 def fringeless(one, two):
     """Which lights make no fringes: all, none, those of one kind alone, or more, with one of these."""
-    rows = [_mirrored(row) for row in _fringe_rows(one, two)]
+    rows = [mirrored(row) for row in _fringe_rows(one, two)]
     many = rank_of(rows)
     if many == 0:
         return ("all",)

@@ -14,6 +14,11 @@ def crossed(row, other):
     return row[0] * other[0] - dot(row[1:], other[1:])
 
 
+def mirrored(row):
+    """The row of which the product with another one is the plain sum of products with it."""
+    return (row[0], -row[1], -row[2], -row[3])
+
+
 def in_cone(row):
     """Whether four whole numbers are those of a light, but for a common divisor."""
     return row[0] >= 0 and crossed(row, row) >= 0

@@ -6,20 +6,15 @@ from platelights.lights import check_light, is_kind
 from platelights.settings import is_setting
 from platelights.tables import led_light, led_numbers, reduced_table, table_product, unit
 from platelights.turns import is_turn, turn_back, turn_table
-from platelights.wholes import first_wrong
+from platelights.wholes import first_wrong, has_word
 
 _MOST_PLATES = 8
 TELLING_LIGHTS = ((1, 0, 0, 0, 1), (1, 1, 0, 0, 1), (1, 0, 1, 0, 1), (1, 0, 0, 1, 1))
 
 
-def _has_word(value):
-    """Whether a value is a tuple that begins with a string."""
-    return type(value) is tuple and len(value) > 0 and type(value[0]) is str
-
-
 def _is_bare_plate(value):
     """Whether a value is a plate that is not set."""
-    if not _has_word(value):
+    if not has_word(value):
         return False
     word, parts = value[0], value[1:]
     if word == "glass":
@@ -39,7 +34,7 @@ def _is_bare_plate(value):
 
 def is_plate(value):
     """Whether a value is a plate."""
-    if _has_word(value) and value[0] == "set":
+    if has_word(value) and value[0] == "set":
         return len(value) == 3 and is_setting(value[1]) and _is_bare_plate(value[2])
     return _is_bare_plate(value)
 

@@ -8,6 +8,11 @@ def is_whole(value):
     return type(value) is int
 
 
+def has_word(value):
+    """Whether a value is a tuple that begins with a string."""
+    return type(value) is tuple and len(value) > 0 and type(value[0]) is str
+
+
 def is_row(value, many):
     """Whether a value is a tuple of so many whole numbers."""
     return type(value) is tuple and len(value) == many and all([is_whole(part) for part in value])

@@ -258,3 +258,57 @@ def swing_of(light):
 def upright(one, two):
     """The cross product of two triples."""
     return [one[1] * two[2] - one[2] * two[1], one[2] * two[0] - one[0] * two[2], one[0] * two[1] - one[1] * two[0]]
+
+
+def equation(reading):
+    """The row and the number of a reading, as point [44] tells them."""
+    first, part = [Fraction(number) for number in reading[1]], worth(reading[-1])
+    if reading[0] == "level":
+        return first, part
+    other = [Fraction(number) for number in reading[2]]
+    if reading[0] == "ratio":
+        return [one - part * two for one, two in zip(first, other)], Fraction(0)
+    return [one - two for one, two in zip(first, other)], part
+
+
+def keeps(numbers, reading):
+    """Whether four numbers keep a reading."""
+    row, number = equation(reading)
+    return dot(row, numbers) == number
+
+
+def weighed_equation(readings, weights):
+    """The weighed sum of the rows and of the numbers of readings."""
+    row, number = [Fraction(0)] * 4, Fraction(0)
+    for reading, weight in zip(readings, weights):
+        own, beside = equation(reading)
+        row = [one + weight * two for one, two in zip(row, own)]
+        number += weight * beside
+    return row, number
+
+
+def opposed(row):
+    """A row with the signs of its last three numbers changed."""
+    return [row[0], -row[1], -row[2], -row[3]]
+
+
+def is_look_row(row):
+    """Whether four numbers are those of a look, but for a factor above 0."""
+    return any(row) and is_light_row(row)
+
+
+def bars_all_lights(readings, paper):
+    """Whether a paper shows that no light fits some readings, word by word as point [47] tells it."""
+    if type(paper) is not tuple or len(paper) < 2 or type(paper[1]) is not tuple:
+        return False
+    if len(paper[1]) != len(readings) or any(type(weight) is not int for weight in paper[1]):
+        return False
+    row, number = weighed_equation(readings, paper[1])
+    if paper[0] == "equations" and len(paper) == 2:
+        return not any(row) and number != 0
+    if paper[0] == "look" and len(paper) == 2:
+        return is_look_row(row) and number < 0
+    if paper[0] != "edge" or len(paper) != 3 or type(paper[2]) is not int or not 0 <= paper[2] < len(readings):
+        return False
+    own, beside = equation(readings[paper[2]])
+    return is_look_row(row) and product(row, row) == 0 and number == 0 and beside != 0 and dot(own, opposed(row)) == 0

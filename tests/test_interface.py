@@ -80,6 +80,23 @@ INTERFACE = {
         "fringes_behind": "one two light", "at_most": "one two share", "sharper": "one two share",
         "blunt_phases": "one two",
     },
+    "readings": {
+        "is_reading": "value", "fits": "light readings", "what_fits": "readings", "any_light": "readings",
+        "bar": "readings", "may_be_dark": "readings", "may_be_plain": "readings", "may_be_pure": "readings",
+    },
+    "ranges": {
+        "level_range": "readings look", "is_settled": "readings look", "settled_level": "readings look",
+        "settled_ratio": "readings look other", "is_kept": "readings reading", "needed": "readings",
+        "looks_wanted": "readings", "say_the_same": "readings others",
+    },
+    "mixing": {
+        "mixture": "lights light", "parting_row": "lights light", "fewest_lights": "lights light",
+        "weight_range": "lights light index", "needless": "lights", "reach_the_same": "lights others",
+    },
+    "patchworks": {
+        "patchwork": "tables table", "sum_weights": "tables table", "parting_table": "tables table",
+        "fewest_tables": "tables table",
+    },
 }
 
 

@@ -24,6 +24,8 @@ STATEMENTS = (
 BARRED_NAMES = set("""register mro elements open input law version_info with_traceback add_note attrgetter breakpoint
 builtins compile copyright credits delattr dir eval exec exit gc getattr globals hasattr help id importlib license
 locals methodcaller os quit setattr super vars sys hash next map round filter format""".split())
+BARRED_ATTRIBUTES = set("""register mro elements open input law sort args encode decode hex fromhex format format_map
+as_integer_ratio bit_count conjugate from_bytes is_integer to_bytes""".split())
 BARRED_WORDS = re.compile(
     r"\b(typing|typing_extensions|enum|Enum|IntEnum|StrEnum|Flag|IntFlag|Generic|Protocol|ABC|ABCMeta|namedtuple|"
     r"NamedTuple|TypedDict|TYPE_CHECKING|abstractmethod)\b|dataclass|overload|contextmanager|_wall|_WallAttr")
@@ -174,8 +176,9 @@ class LanguageTest(unittest.TestCase):
                 for node in ast.walk(function):
                     if isinstance(node, ast.Name) and isinstance(node.ctx, ast.Load):
                         self.assertIn(node.id, known | bound | BUILTINS, (file.name, node.lineno))
+        own = own_attributes()
         for place, node in self.each(ast.Attribute):
-            self.assertIn(node.attr, METHODS | {"given"} | {"index"}, place)
+            self.assertIn(node.attr, METHODS | own, place)
         for place, node in self.each(ast.Call):
             self.assertEqual(node.keywords, [], place)
             self.assertFalse(any(isinstance(part, ast.Starred) for part in node.args), place)
@@ -185,6 +188,10 @@ class LanguageTest(unittest.TestCase):
                     kind = isinstance(node.left, ast.Call) and node.left.func.id == "type"
                     self.assertTrue(kind or isinstance(right, ast.Constant) and right.value is None, place)
 
+    def test_own_attributes(self):
+        self.assertEqual(own_attributes() & (METHODS - {"count", "index", "copy", "find", "get", "join"}), set())
+        self.assertEqual(own_attributes() & BARRED_ATTRIBUTES, set())
+
     def test_numbers_and_strings(self):
         for place, node in self.each(ast.Constant):
             self.assertNotIsInstance(node.value, (float, complex, bytes), place)
@@ -193,6 +200,18 @@ class LanguageTest(unittest.TestCase):
                 self.assertNotIn("__", node.value, place)
         for place, node in self.each(ast.BinOp, ast.AugAssign):
             self.assertNotIsInstance(node.op, (ast.Div, ast.Pow, ast.MatMult), place)
+
+
+def own_attributes():
+    """The names of the attributes that the package's classes give their own objects, and of their methods."""
+    found = set()
+    for file in FILES:
+        for node in nodes_of(file, ast.ClassDef):
+            for part in ast.walk(node):
+                if isinstance(part, ast.Attribute) and isinstance(part.ctx, ast.Store) and part.value.id == "self":
+                    found.add(part.attr)
+            found |= {part.name for part in node.body if isinstance(part, ast.FunctionDef)}
+    return found
 
 
 def defined_in(file):

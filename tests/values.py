@@ -121,6 +121,10 @@ class Draw:
     def row(self, many, most):
         return tuple([self.number(most) for _ in range(many)])
 
+    def coprime(self, numbers):
+        """Whether whole numbers have no common divisor."""
+        return gcd(*numbers) == 1
+
     def fraction(self, most=9):
         return reduced((self.number(most), self.chance.randint(1, most)))
 
@@ -153,6 +157,18 @@ class Draw:
             row = reduced(self.row(4, most))
         first = [number for number in row if number != 0][0]
         return tuple([number if first > 0 else -number for number in row])
+
+    def look(self, most=5):
+        """A look of any sort: one that reads all alike, a pure one, or in between."""
+        row = (0, 0, 0, 0)
+        while row == (0, 0, 0, 0):
+            row = reduced(self.light(most)[:4])
+        return row
+
+    def reading(self, most=5):
+        word = self.chance.choice(("level", "ratio", "more"))
+        looks = (self.look(most),) if word == "level" else (self.look(most), self.look(most))
+        return (word, *looks, self.fraction(most))
 
     def table(self, most=4):
         numbers = reduced(self.row(16, most) + (self.chance.randint(1, most),))
@@ -199,4 +215,22 @@ WRONG_RIGS = list(STRANGE) + [
     ((), ALONG, (("grey", (2, 4)),)), ((ALONG,) * 8, ALONG, ()), ((), ALONG, (ALONG,) * 8), ((ALONG,) * 9, ALONG, ()),
     ((ALONG,) * 4, ALONG, (ALONG,) * 4), ((ALONG,) * 7, ALONG, (ALONG,)), (ALONG, (), ()), ((), list(ALONG), ()),
     ((), ("set", (0, 1), ("set", (0, 1), ALONG)), ()), (PRICKLY, PRICKLY, PRICKLY), ((ALONG,), (), (ALONG,)),
+]
+LOOK = (2, 1, 0, 1)
+LEVEL = ("level", LOOK, (1, 2))
+WRONG_READINGS = list(STRANGE) + [
+    0, (), ("level",), ("level", LOOK), ("level", LOOK, (1, 2), (1, 2)), ["level", LOOK, (1, 2)], ("Level", LOOK, (1, 2)),
+    ("level ", LOOK, (1, 2)), (b"level", LOOK, (1, 2)), (PRICKLY, LOOK, (1, 2)), ("level", PRICKLY, (1, 2)),
+    ("level", LOOK, PRICKLY), ("level", LOOK, None), ("level", LOOK, 1), ("level", LOOK, True), ("level", LOOK, (2, 4)),
+    ("level", LOOK, [1, 2]), ("level", LOOK, (1, 0)), ("level", LOOK, LOOK), ("level", (2, 2, 0, 2), (1, 2)),
+    ("level", (0, 0, 0, 0), (0, 1)), ("level", (1, 1, 1, 0), (1, 2)), ("level", (1, 0, 0), (1, 2)), ("level", (1, 2), LOOK),
+    ("level", list(LOOK), (1, 2)), ("level", (True, 0, 0, 0), (1, 2)), ("level", (-1, 0, 0, 0), (1, 2)),
+    ("level", LOOK, LOOK, (1, 2)), ("ratio", LOOK, (1, 2)), ("ratio", LOOK, LOOK), ("ratio", LOOK, LOOK, LOOK),
+    ("ratio", LOOK, LOOK, (2, 4)), ("ratio", LOOK, (2, 0, 0, 0), (1, 2)), ("ratio", (2, 0, 0, 0), LOOK, (1, 2)),
+    ("ratio", LOOK, LOOK, (1, 2), (1, 2)), ("ratio", LOOK, None, (1, 2)), ("ratio", None, LOOK, (1, 2)), ("ratio",),
+    ["ratio", LOOK, LOOK, (1, 2)], ("ratio", LOOK, LOOK, None), ("ratio", LOOK, PRICKLY, (1, 2)), ("ratio", LOOK, LOOK, 0),
+    ("more", LOOK, (1, 2)), ("more", LOOK, LOOK), ("more", LOOK, LOOK, (2, 4)), ("more", LOOK, (1, 1, 1, 0), (1, 2)),
+    ("more", (1, 1, 1, 0), LOOK, (1, 2)), ("more", LOOK, LOOK, (1, 2), ()), ("more", LOOK, LOOK, True), ("more",),
+    ("less", LOOK, LOOK, (1, 2)), ("more", LOOK, LOOK, [1, 2]), ("", LOOK, (1, 2)), (LOOK, (1, 2)), (("level", LOOK, (1, 2)),),
+    ("more", list(LOOK), LOOK, (1, 2)), ("more", LOOK, list(LOOK), (1, 2)), (LOOK, LOOK, LOOK, (1, 2)), (1, LOOK, (1, 2)),
 ]
