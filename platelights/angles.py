@@ -134,7 +134,7 @@ def compare_courses(course, other):
     return "not above" if greatest == 0 else "crossing"
 
 
-def _minors(numbers, t):
+def minors_of(numbers, t):
     """The signs of the three leading minors of the square table of five numbers and a fraction t."""
     f0, f1, f2 = numbers[:3]
     second = (4 * f0 * f2 - f1 * f1, -8 * f0)
@@ -161,7 +161,7 @@ def square_number(course):
     # The fractions that do it lie between the two least roots of the determinant, and so does its lower still point.
     numbers, scale = course[:5], 2
     t = _lower_still_point(numbers, scale)
-    while min(_minors(numbers, t)) <= 0:
+    while min(minors_of(numbers, t)) <= 0:
         scale *= scale
         t = _lower_still_point(numbers, scale)
     return t

@@ -18,6 +18,11 @@ def is_pair(value):
     return type(value) is tuple and len(value) == 2 and is_light(value[0]) and is_light(value[1])
 
 
+def are_pairs(value):
+    """Whether a value is a tuple of at most six pairs."""
+    return type(value) is tuple and first_wrong(value, is_pair, _MOST_PAIRS) is None
+
+
 def check_pairs(value):
     """Raise an error for what is no tuple of at most six pairs."""
     if type(value) is not tuple:
@@ -38,7 +43,7 @@ def _upright(one, two):
     return (one[1] * two[2] - one[2] * two[1], one[2] * two[0] - one[0] * two[2], one[0] * two[1] - one[1] * two[0])
 
 
-def _has_one_level(pair):
+def has_one_level(pair):
     """Whether both lights of a pair have the same level."""
     before, after = pair
     return before[0] * after[4] == after[0] * before[4]
@@ -49,7 +54,7 @@ def leading(light, other):
     check_light(light)
     check_light(other)
     swing, led = _swings((light, other))
-    if not _has_one_level((light, other)) or dot(swing, swing) != dot(led, led):
+    if not has_one_level((light, other)) or dot(swing, swing) != dot(led, led):
         return None
     whole = dot(swing, swing) + dot(swing, led)
     if whole != 0:
@@ -68,7 +73,7 @@ def is_fitting(pairs, turn):
     return all([turned_light(before, turn) == after for before, after in pairs])
 
 
-def _have_one_product(pair, other):
+def have_one_product(pair, other):
     """Whether the first lights of two pairs have the same product as the second ones."""
     (before, after), (first, second) = pair, other
     one, two = crossed(before[:4], first[:4]), crossed(after[:4], second[:4])
@@ -79,7 +84,7 @@ def _bar_of_products(pairs):
     """Two indexes of pairs whose lights have unlike products, if there are such."""
     for at, pair in enumerate(pairs):
         for place in range(at, len(pairs)):
-            if not _have_one_product(pair, pairs[place]):
+            if not have_one_product(pair, pairs[place]):
                 return ("product", at, place)
     return None
 
@@ -90,13 +95,16 @@ def _hand(triple):
     return dot(one, _upright(two, three))
 
 
+def have_one_hand(pairs):
+    """Whether the first lights of three pairs have the same determinant as the second ones."""
+    swings = [_swings(pair) for pair in pairs]
+    return _hand([before for before, _ in swings]) == _hand([after for _, after in swings])
+
+
 def _bar_of_hands(pairs):
     """Three indexes of pairs whose lights have unlike determinants, if there are such."""
-    swings = [_swings(pair) for pair in pairs]
     for chosen in combinations(range(len(pairs)), 3):
-        befores = [swings[at][0] for at in chosen]
-        afters = [swings[at][1] for at in chosen]
-        if _hand(befores) != _hand(afters):
+        if not have_one_hand([pairs[at] for at in chosen]):
             return ("hand", *chosen)
     return None
 
@@ -105,7 +113,7 @@ def bar_to_turn(pairs):
     """What shows that no turn fits some pairs; None if some turn fits."""
     check_pairs(pairs)
     for at, pair in enumerate(pairs):
-        if not _has_one_level(pair):
+        if not has_one_level(pair):
             return ("level", at)
     bar = _bar_of_products(pairs)
     return bar if bar is not None else _bar_of_hands(pairs)

@@ -57,6 +57,11 @@ def check_look(value):
         raise InvalidLook(value)
 
 
+def are_lights(value):
+    """Whether a value is a tuple of at most eight lights."""
+    return type(value) is tuple and first_wrong(value, is_light, _MOST_LIGHTS) is None
+
+
 def check_lights(value):
     """Raise an error for what is no tuple of at most eight lights."""
     if type(value) is not tuple:

@@ -28,7 +28,7 @@ def _numbers(table):
     return [number for row in table[0] for number in row]
 
 
-def _patch(table):
+def patch_of(table):
     """The sixteen whole numbers of a table and the one that they are over, so that weights add up to 1."""
     return [*_numbers(table), table[1]]
 
@@ -45,7 +45,7 @@ def patchwork(tables, table):
     """Weights that add up to 1, by which tables add up to a table; None if it is no patchwork of them."""
     check_tables(tables)
     check_table(table)
-    return _shares(row_weights([_patch(told) for told in tables], _patch(table)), tables, table)
+    return _shares(row_weights([patch_of(told) for told in tables], patch_of(table)), tables, table)
 
 
 def sum_weights(tables, table):
@@ -59,7 +59,7 @@ def parting_table(tables, table):
     """Four rows and a number, by which the sums of products of all tables are not less, that of a table is; None."""
     check_tables(tables)
     check_table(table)
-    parting = parting_from([_patch(told) for told in tables], _patch(table))
+    parting = parting_from([patch_of(told) for told in tables], patch_of(table))
     if parting is None:
         return None
     return (tuple([parting[at:at + 4] for at in range(0, 16, 4)]), -parting[16])
@@ -69,4 +69,4 @@ def fewest_tables(tables, table):
     """The indexes of the fewest tables, of these the least, of which a table is a patchwork; None."""
     check_tables(tables)
     check_table(table)
-    return fewest_rows([_patch(told) for told in tables], _patch(table))
+    return fewest_rows([patch_of(told) for told in tables], patch_of(table))

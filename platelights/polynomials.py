@@ -42,7 +42,7 @@ def sign_at(polynomial, point):
     return sign_of(value_at(polynomial, point))
 
 
-def _derivative(polynomial):
+def derivative(polynomial):
     """The derivative of a polynomial."""
     return trimmed([at * number for at, number in enumerate(polynomial) if at > 0])
 
@@ -85,8 +85,8 @@ def _quotient(polynomial, divisor):
 
 def sturm_rows(polynomial):
     """The rows of Sturm of a polynomial that is not 0, of which each root is taken once."""
-    single = _quotient(polynomial, common_divisor(polynomial, _derivative(polynomial)))
-    rows = [single, _derivative(single)]
+    single = _quotient(polynomial, common_divisor(polynomial, derivative(polynomial)))
+    rows = [single, derivative(single)]
     while len(rows[-1]) > 0:
         rows.append(tuple([-number for number in _remainder(rows[-2], rows[-1])]))
     return rows[:-1]

@@ -41,15 +41,26 @@ def _loss(stack):
     return [[(below if at == place else 0) - row[place] for place in range(4)] for at, row in enumerate(rows)], below
 
 
+def _losing(rows, light):
+    """Numbers over one such that the light less what they lose by rows loses nothing more; all leave the same."""
+    return solution_of(rows_product(rows, rows), [dot(row, light[:4]) for row in rows])
+
+
 def mean_light(stack, light):
     """The light to which the mean of a light's rounds comes as near as one likes."""
     check_stack(stack)
     check_light(light)
     rows, _ = _loss(stack)
-    # The light less what some numbers lose is to lose nothing more; all such numbers leave the same.
-    numbers, below = solution_of(rows_product(rows, rows), [dot(row, light[:4]) for row in rows])
+    numbers, below = _losing(rows, light)
     lost = [dot(row, numbers) for row in rows]
     return reduced((*combined(below, light[:4], -1, lost), below * light[4]))
+
+
+def losing_row(stack, light):
+    """Five numbers that lose in a round what a light has beside its mean light."""
+    rows, size = _loss(stack)
+    numbers, below = _losing(rows, light)
+    return reduced((*[size * number for number in numbers], below * light[4]))
 
 
 def last_level(stack, light):

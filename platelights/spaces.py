@@ -8,7 +8,7 @@ from math import isqrt
 
 from platelights.equations import null_rows, rank_of, solution_of
 from platelights.lights import crossed
-from platelights.wholes import combined, reduced
+from platelights.wholes import combined, dot, reduced
 
 _LEVEL = (1, 0, 0, 0)
 _DARK = (0, 0, 0, 0, 1)
@@ -133,6 +133,17 @@ def light_within(space):
         row = space.start
         many = -(crossed(row[:4], row[:4]) // (2 * row[4] * crossed(row[:4], step)))
     return reduced((*combined(1, row[:4], many * row[4], step), row[4]))
+
+
+def other_light_within(space, look):
+    """A light of which a look reads another level than of the light that is told first, if it is not settled."""
+    light = light_within(space)
+    if lights_within(space) != "some":
+        return reduced((*combined(1, light[:4], light[4], light_among_steps(space)), light[4]))
+    step = [own for own in space.steps if dot(look, own) != 0][0]
+    # The square of the centre is to make up for that of so small a part of the step.
+    parts = isqrt(-crossed(step, step) * light[4] * light[4] // crossed(light[:4], light[:4])) + 1
+    return reduced((*combined(parts, light[:4], light[4], step), parts * light[4]))
 
 
 def hull_of(space):

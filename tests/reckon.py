@@ -153,19 +153,38 @@ def starred(matrix):
 SPINS = ([[1, 0], [0, 1]], [[1, 0], [0, -1]], [[0, 1], [1, 0]], [[0, -1j], [1j, 0]])
 
 
-def exact(number):
-    """A complex number without an imaginary part, which is a whole number or a half, as a fraction."""
-    assert number.imag == 0 and abs(number.real) < 2 ** 50
-    return Fraction(number.real)
+class Exact:
+    """A complex number of whole parts, whatever their size."""
+
+    def __init__(self, real, imag):
+        self.real = real
+        self.imag = imag
+
+    def __add__(self, other):
+        return Exact(self.real + int(other.real), self.imag + int(other.imag))
+
+    def __mul__(self, other):
+        x, y = int(other.real), int(other.imag)
+        return Exact(self.real * x - self.imag * y, self.real * y + self.imag * x)
+
+    __radd__, __rmul__ = __add__, __mul__
+
+    def conjugate(self):
+        return Exact(self.real, -self.imag)
 
 
 def rows_of_matrix(matrix):
     """The sixteen numbers of a matrix, by traces."""
-    j = complex_matrix(matrix)
+    j = [[Exact(*one) for one in row] for row in matrix]
     rows = []
     for spin in SPINS:
-        wholes = [multiplied(multiplied(multiplied(spin, j), other), starred(j)) for other in SPINS]
-        rows.append([exact(whole[0][0] + whole[1][1]) / 2 for whole in wholes])
+        traces = []
+        for other in SPINS:
+            whole = multiplied(multiplied(multiplied(spin, j), other), starred(j))
+            trace = whole[0][0] + whole[1][1]
+            assert trace.imag == 0
+            traces.append(Fraction(trace.real, 2))
+        rows.append(traces)
     return rows
 
 
@@ -221,6 +240,14 @@ def compared_with_surd(number, surd):
     """-1, 0 or 1, as a number is less than, equal to, greater than a surd."""
     part, sign, square = surd
     return compared_with_root(number - worth(part), sign, worth(square))
+
+
+def mixed_rows(tables, weights):
+    """The sixteen numbers of tables times weights, added."""
+    whole = diagonal(0, 0, 0, 0)
+    for table, weight in zip(tables, weights):
+        whole = [[one + weight * two for one, two in zip(line, row)] for line, row in zip(whole, rows_of(table))]
+    return whole
 
 
 def rank(rows):
@@ -299,7 +326,7 @@ def is_look_row(row):
 
 def bars_all_lights(readings, paper):
     """Whether a paper shows that no light fits some readings, word by word as point [47] tells it."""
-    if type(paper) is not tuple or len(paper) < 2 or type(paper[1]) is not tuple:
+    if type(paper) is not tuple or len(paper) < 2 or type(paper[0]) is not str or type(paper[1]) is not tuple:
         return False
     if len(paper[1]) != len(readings) or any(type(weight) is not int for weight in paper[1]):
         return False

@@ -97,6 +97,24 @@ INTERFACE = {
         "patchwork": "tables table", "sum_weights": "tables table", "parting_table": "tables table",
         "fewest_tables": "tables table",
     },
+    "texts": {"plate_text": "plate", "plate_in": "text"},
+    "checker": {"accepts": "claim paper"},
+    "certificates": {
+        "certify_stacks": "stack other", "certify_keeper": "table", "certify_made": "table", "certify_fringes": "one two",
+        "certify_readings": "readings", "certify_look": "readings look", "certify_mixture": "lights light",
+        "certify_patchwork": "tables table", "certify_pairs": "pairs", "certify_turn": "turn",
+        "certify_courses": "course other", "certify_rounds": "stack", "certify_level": "stack light",
+        "certify_return": "stack light",
+    },
+}
+# Classes, with the arguments that each is made with, and their methods and properties (None).
+CLASSES = {
+    "benches": {"Bench": ("", {
+        "put_light": "name light", "put_plate": "name plate", "lay": "name light plates", "drop": "name", "thing": "name",
+        "stack": "name", "out": "name many", "wish": "wish", "lift": "index", "undo": "", "trial": "", "tried": "action",
+        "__len__": "", "lights": None, "plates": None, "beams": None, "wishes": None,
+    })},
+    "consoles": {"Console": ("bench", {"say": "line"})},
 }
 
 
@@ -114,6 +132,21 @@ class InterfaceTest(unittest.TestCase):
                     for parameter in signature.parameters.values():
                         self.assertEqual(parameter.kind, parameter.POSITIONAL_OR_KEYWORD)
                         self.assertIs(parameter.default, parameter.empty)
+
+    def test_each_class_is_defined_where_it_is_listed(self):
+        for module, classes in CLASSES.items():
+            found = importlib.import_module("platelights." + module)
+            for name, (made_with, methods) in classes.items():
+                told = getattr(found, name)
+                self.assertEqual((told.__module__, told.__bases__), (found.__name__, (object,)))
+                self.assertEqual(list(inspect.signature(told).parameters), made_with.split())
+                for method, parameters in methods.items():
+                    with self.subTest(name=name, method=method):
+                        own = vars(told)[method]
+                        if parameters is None:
+                            self.assertIsInstance(own, property)
+                        else:
+                            self.assertEqual(list(inspect.signature(own).parameters), ["self"] + parameters.split())
 
     def test_each_module_can_be_imported_alone(self):
         folder = Path(__file__).parent.parent / "platelights"

@@ -19,7 +19,7 @@ isupper items join keys ljust lower lstrip partition pop remove replace reverse 
 setdefault split splitlines startswith strip update upper values zfill bit_length""".split())
 STATEMENTS = (
     ast.Assign, ast.AugAssign, ast.If, ast.While, ast.For, ast.Return, ast.Break, ast.Continue, ast.Pass, ast.Raise,
-    ast.Expr, ast.FunctionDef, ast.ClassDef, ast.ImportFrom,
+    ast.Expr, ast.FunctionDef, ast.ClassDef, ast.ImportFrom, ast.With,
 )
 BARRED_NAMES = set("""register mro elements open input law version_info with_traceback add_note attrgetter breakpoint
 builtins compile copyright credits delattr dir eval exec exit gc getattr globals hasattr help id importlib license
@@ -139,18 +139,62 @@ class LanguageTest(unittest.TestCase):
             self.assertIsInstance(node, STATEMENTS, place)
             if isinstance(node, ast.Expr):
                 self.assertIsInstance(node.value, (ast.Call, ast.Constant), place)
-        barred = (ast.NamedExpr, ast.Set, ast.SetComp, ast.Lambda, ast.Await, ast.Yield, ast.YieldFrom, ast.JoinedStr)
+        barred = (ast.NamedExpr, ast.Set, ast.SetComp, ast.Lambda, ast.Await, ast.Yield, ast.YieldFrom)
         self.assertEqual([place for place, _ in self.each(*barred)], [])
 
     def test_functions(self):
         for place, node in self.each(ast.FunctionDef, ast.ClassDef):
-            self.assertEqual(node.decorator_list, [], place)
+            decorators = [ast.unparse(decorator) for decorator in node.decorator_list]
+            self.assertIn(decorators, ([], ["property"]) if isinstance(node, ast.FunctionDef) else ([],), place)
         for place, node in self.each(ast.FunctionDef):
-            plain = (node.args.posonlyargs, node.args.kwonlyargs, node.args.defaults, node.args.vararg, node.args.kwarg)
-            self.assertEqual(plain, ([], [], [], None, None), place)
-            self.assertTrue(ast.get_docstring(node) or node.name == "__init__", place)
+            plain = (node.args.posonlyargs, node.args.kwonlyargs, node.args.vararg, node.args.kwarg)
+            self.assertEqual(plain, ([], [], None, None), place)
+            self.assertTrue(all(isinstance(worth, ast.Constant) for worth in node.args.defaults), place)
+            self.assertTrue(ast.get_docstring(node) or node.name in ("__init__", "__enter__", "__exit__"), place)
             inner = [part for part in ast.walk(node) if isinstance(part, (ast.FunctionDef, ast.ClassDef))]
             self.assertEqual(inner, [node], place)
+
+    def test_classes(self):
+        marks = {"__init__", "__enter__", "__exit__", "__len__", "__bool__", "__contains__"}
+        for place, node in self.each(ast.ClassDef):
+            self.assertLessEqual(len(node.bases), 1, place)
+            body = [part for part in node.body if not isinstance(part, ast.Expr)]
+            self.assertTrue(all(isinstance(part, ast.FunctionDef) for part in body), place)
+            methods = [part.name for part in body]
+            self.assertEqual(len(methods), len(set(methods)), place)
+            attributes = {part.attr for part in ast.walk(node) if isinstance(part, ast.Attribute)
+                          and isinstance(part.ctx, ast.Store)}
+            self.assertEqual(attributes & set(methods), set(), place)
+            for part in body:
+                self.assertTrue(part.name in marks or not part.name.startswith("__"), place)
+                self.assertEqual(part.args.args[0].arg, "self", place)
+                if part.decorator_list or part.name in ("__len__", "__bool__", "__contains__"):
+                    # A property, an operator or a length does no more than tell something.
+                    self.assertEqual([type(row) for row in part.body], [ast.Expr, ast.Return], place)
+                if part.name == "__len__":
+                    self.assertTrue(ast.unparse(part.body[1]).startswith("return len("), place)
+
+    def test_properties_are_not_attributes(self):
+        told = {node.name for _, node in self.each(ast.FunctionDef) if node.decorator_list}
+        self.assertEqual(told, {"lights", "plates", "beams", "wishes"})
+        stored = {node.attr for _, node in self.each(ast.Attribute) if isinstance(node.ctx, ast.Store)}
+        self.assertEqual(told & stored, set())
+
+    def test_ends_of_with_statements(self):
+        for place, node in self.each(ast.FunctionDef):
+            if node.name == "__exit__":
+                self.assertEqual([part.arg for part in node.args.args], ["self", "kind", "value", "trace"], place)
+                reads = [part.id for part in ast.walk(node) if isinstance(part, ast.Name) and isinstance(part.ctx, ast.Load)]
+                self.assertEqual(set(reads) & {"value", "trace"}, set(), place)
+                for part in ast.walk(node):
+                    self.assertNotIsInstance(part, (ast.Call, ast.BinOp, ast.Subscript, ast.For, ast.While, ast.Raise), place)
+                    if isinstance(part, ast.If):
+                        self.assertEqual(ast.unparse(part.test), "kind is not None", place)
+
+    def test_texts_in_braces(self):
+        for place, node in self.each(ast.FormattedValue):
+            self.assertEqual((node.conversion, node.format_spec), (-1, None), place)
+            self.assertFalse(any(isinstance(part, ast.Constant) and isinstance(part.value, str) for part in ast.walk(node)))
 
     def test_names(self):
         for file in FILES:
@@ -174,7 +218,7 @@ class LanguageTest(unittest.TestCase):
             for function in nodes_of(file, ast.FunctionDef):
                 bound = set(names_bound_within(function))
                 for node in ast.walk(function):
-                    if isinstance(node, ast.Name) and isinstance(node.ctx, ast.Load):
+                    if isinstance(node, ast.Name) and isinstance(node.ctx, ast.Load) and node.id != "property":
                         self.assertIn(node.id, known | bound | BUILTINS, (file.name, node.lineno))
         own = own_attributes()
         for place, node in self.each(ast.Attribute):

@@ -9,20 +9,12 @@ from platelights.keepers import keeps_lights
 from platelights.patchworks import fewest_tables, parting_table, patchwork, sum_weights
 from platelights.plates import table_of_plate
 from tests.cases import Argument, Case
-from tests.reckon import pair_of, rows_of, table_of_numbers, worth
+from tests.reckon import mixed_rows, pair_of, rows_of, table_of_numbers, worth
 from tests.values import ALONG, BIG, GLASS, NOUGHT, SLANT, UNIT, UPRIGHT, WRONG_TABLES, Draw, wrong_lists
 
 EAST, WEST, NORTH = [table_of_plate(plate) for plate in (ALONG, UPRIGHT, SLANT)]
 GREY, DULL = table_of_plate(("grey", (1, 2))), table_of_plate(("dull", (0, 1)))
 TINY = Fraction(1, BIG)
-
-
-def mixed(tables, weights):
-    """The sixteen numbers of tables times weights, added."""
-    rows = [[Fraction(0)] * 4 for _ in range(4)]
-    for table, weight in zip(tables, weights):
-        rows = [[one + weight * two for one, two in zip(line, row)] for line, row in zip(rows, rows_of(table))]
-    return rows
 
 
 def pairing(rows, table):
@@ -34,7 +26,7 @@ def shown_as_sum(tables, table, weights):
     """Whether weights show that a table is a sum of tables."""
     if type(weights) is not tuple or len(weights) != len(tables) or min(worth(weight) for weight in weights) < 0:
         return False
-    return mixed(tables, [worth(weight) for weight in weights]) == rows_of(table)
+    return mixed_rows(tables, [worth(weight) for weight in weights]) == rows_of(table)
 
 
 def shown_as_patchwork(tables, table, weights):
@@ -82,12 +74,12 @@ class PatchworksTest(Case):
         for _ in range(40):
             tables = [draw.table(1) for _ in range(draw.chance.randint(1, 6))]
             if draw.chance.randint(0, 1) and len(tables) > 2:
-                tables[2] = table_of_numbers(mixed(tables, [Fraction(1, 3), Fraction(2, 3)]))
+                tables[2] = table_of_numbers(mixed_rows(tables, [Fraction(1, 3), Fraction(2, 3)]))
                 tables[-1] = draw.chance.choice(tables)
             parts = [draw.chance.randint(0, 3) for _ in tables]
             parts[draw.chance.randrange(len(parts))] += 1
             weights = [Fraction(part, sum(parts)) for part in parts]
-            rows = mixed(tables, weights)
+            rows = mixed_rows(tables, weights)
             self.assertTrue(self.check(tuple(tables), table_of_numbers(rows)))
             for factor in (Fraction(1, 2), Fraction(3), 1 + TINY):
                 table = table_of_numbers([[factor * number for number in row] for row in rows])
@@ -103,7 +95,7 @@ class PatchworksTest(Case):
         for _ in range(60):
             tables = tuple([draw.table(1) for _ in range(draw.chance.randint(1, 6))])
             parts = [Fraction(draw.chance.randint(-1, 4), draw.chance.randint(1, 3)) for _ in tables]
-            table = table_of_numbers(mixed(tables, parts))
+            table = table_of_numbers(mixed_rows(tables, parts))
             told = sum_weights(tables, table)
             self.gives(told, sum_weights, tables, table)
             seen[told is None] += 1
@@ -114,7 +106,7 @@ class PatchworksTest(Case):
         self.assertGreater(min(seen.values()), 15)
 
     def test_edges_of_patchworks(self):
-        half = table_of_numbers(mixed((UNIT, NOUGHT), (Fraction(1, 2), 0)))
+        half = table_of_numbers(mixed_rows((UNIT, NOUGHT), (Fraction(1, 2), 0)))
         for tables, table, is_patchwork, is_sum in (
             ((UNIT,), UNIT, True, True), ((UNIT,), half, False, True), ((UNIT, NOUGHT), half, True, True), ((UNIT,), NOUGHT, False, True),
             ((NOUGHT,), NOUGHT, True, True), ((NOUGHT,), UNIT, False, False), ((UNIT,) * 6, UNIT, True, True), ((UNIT,) * 6, half, False, True),
@@ -135,13 +127,13 @@ class PatchworksTest(Case):
             ((EAST, WEST, NORTH), (0, 0, 1), (-TINY, TINY, 1)), ((EAST, WEST, NORTH), (0, 1, 0), (TINY, 1 - 2 * TINY, TINY)),
             ((EAST, WEST, NORTH, UNIT), (1, 0, 0, 0), (1, TINY, 0, -TINY)),
         ):
-            self.assertTrue(self.check(tables, table_of_numbers(mixed(tables, weights))))
-            beside = table_of_numbers(mixed(tables, away))
+            self.assertTrue(self.check(tables, table_of_numbers(mixed_rows(tables, weights))))
+            beside = table_of_numbers(mixed_rows(tables, away))
             self.assertEqual(self.check(tables, beside), min(away) >= 0)
             self.assertEqual(sum_weights(tables, beside) is None, min(away) < 0)
 
     def test_fewest_tables(self):
-        half = table_of_numbers(mixed((UNIT, GLASS), (Fraction(1, 2), Fraction(1, 2))))
+        half = table_of_numbers(mixed_rows((UNIT, GLASS), (Fraction(1, 2), Fraction(1, 2))))
         for tables, table, told in (
             ((UNIT, GLASS), half, (0, 1)), ((UNIT, GLASS, half), half, (2,)), ((EAST, UNIT, NOUGHT, GLASS), half, (1, 3)),
             ((UNIT, UNIT), UNIT, (0,)), ((NOUGHT, UNIT, GLASS, UNIT, GLASS), half, (1, 2)), ((NOUGHT, UNIT), NOUGHT, (0,)),
@@ -153,7 +145,7 @@ class PatchworksTest(Case):
         draw = Draw(3)
         for _ in range(6):
             tables = [table_of_plate(draw.plate()) for _ in range(4)]
-            table = table_of_numbers(mixed(tables, [Fraction(at + 1, 10) for at in range(4)]))
+            table = table_of_numbers(mixed_rows(tables, [Fraction(at + 1, 10) for at in range(4)]))
             self.assertTrue(self.check(tuple(tables), table))
             self.assertTrue(keeps_lights(table))
 
@@ -165,9 +157,9 @@ class PatchworksTest(Case):
             tables.append(table_of_numbers(rows))
         weights = [Fraction(1, huge), Fraction(1, 3), Fraction(1, 7)]
         weights.append(1 - sum(weights))
-        self.assertTrue(self.check(tuple(tables), table_of_numbers(mixed(tables, weights))))
-        self.assertFalse(self.check(tuple(tables), table_of_numbers(mixed(tables, weights[:3]))))
-        self.assertEqual(pair_of(weights[0]), patchwork(tuple(tables), table_of_numbers(mixed(tables, weights)))[0])
+        self.assertTrue(self.check(tuple(tables), table_of_numbers(mixed_rows(tables, weights))))
+        self.assertFalse(self.check(tuple(tables), table_of_numbers(mixed_rows(tables, weights[:3]))))
+        self.assertEqual(pair_of(weights[0]), patchwork(tuple(tables), table_of_numbers(mixed_rows(tables, weights)))[0])
 
     def test_wrong_arguments(self):
         some = Argument("tables", (UNIT, EAST), InvalidTables, (), wrong_lists(UNIT, WRONG_TABLES, 6) + [((), None)])
