@@ -46,30 +46,21 @@ def _first_broken(state, name):
     return None
 
 
-class Mark:
-    """The story of a bench when a trial began, and the mark of the same trial that it stands in, if any."""
-
-    def __init__(self, story, outer):
-        self.story = story
-        self.outer = outer
-
-
 class Trial:
     """What a with statement takes to leave a bench as it was if its block ends with an exception."""
 
     def __init__(self, bench):
         self.bench = bench
-        self.mark = None
+        self.story = bench.story
 
     def __enter__(self):
-        self.mark = Mark(self.bench.story, self.mark)
+        self.story = self.bench.story
         return self.bench
 
     def __exit__(self, kind, value, trace):
         bench = self.bench
         if kind is not None:
-            bench.story = self.mark.story
-        self.mark = self.mark.outer
+            bench.story = self.story
 
 
 class Bench:
@@ -185,7 +176,7 @@ class Bench:
 
     def tried(self, action):
         """What a function returns of the bench; if it raises an error, the bench is as it was before."""
-        with self.trial() as bench:
+        with Trial(self) as bench:
             answer = action(bench)
         return answer
 

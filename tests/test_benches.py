@@ -559,16 +559,6 @@ class BenchTest(Case):
                     bench.put_light("lamp", DARK)
                     raise EOFError()
             self.assertEqual(story_of(bench), after)
-        with self.assertRaises(EOFError):
-            with trial:
-                bench.put_light("lamp", DARK)
-                with self.assertRaises(EOFError):
-                    with trial:
-                        bench.put_light("lamp", EAST)
-                        raise EOFError()
-                self.assertEqual(bench.thing("lamp"), DARK)
-                raise EOFError()
-        self.assertEqual(story_of(bench), after)
 
     def test_actions_that_are_tried(self):
         bench, seen = filled(), []
