@@ -11,12 +11,20 @@ from tests.cases import PRICKLY
 from tests.judge import made_rank
 from tests.reckon import mixed_rows, row_of, table_of_numbers
 from tests.unknown import all_readings
-from tests.values import ALONG, GLASS, HALF, NOUGHT, SLANT, UNIT, UPRIGHT, Draw
+from tests.values import ALONG, GLASS, HALF, NOUGHT, SLANT, UNIT, UPRIGHT, Draw, reduced
 
 MAGNET, RIGHT = ("magnet", (1, 1)), ("polariser", (0, 0, 1, 1))
-ONE_WAY = ((ALONG, MAGNET, SLANT), (HALF, ALONG, ("set", (1, 3), MAGNET), SLANT, ("glass",)), (UPRIGHT, ("magnet", (-1, 1)), SLANT))
-NOTHING_BACK = ONE_WAY + ((ALONG, MAGNET), (ALONG, ("turner", (1, 0, 1, 0))), (("dull", (1, 2)), UPRIGHT, ("turner", (1, 0, -1, 0))))
-LINES = ((-2, 0, 1), (0, 0, 0), (1, 2, 1), (0, 1, 0), (1, 0, 0), (0, 0, 1), (1, -2, 1), (2, 4, 1), (-1, 1, 1), (0, 1, 1), (1, 0, -4), (3, 1, -1))
+ONE_WAY = (
+    (ALONG, MAGNET, SLANT), (HALF, ALONG, ("set", (1, 3), MAGNET), SLANT, ("glass",)),
+    (UPRIGHT, ("magnet", (-1, 1)), SLANT),
+)
+NOTHING_BACK = ONE_WAY + (
+    (ALONG, MAGNET), (ALONG, ("turner", (1, 0, 1, 0))), (("dull", (1, 2)), UPRIGHT, ("turner", (1, 0, -1, 0))),
+)
+LINES = (
+    (-2, 0, 1), (0, 0, 0), (1, 2, 1), (0, 1, 0), (1, 0, 0), (0, 0, 1), (1, -2, 1), (2, 4, 1), (-1, 1, 1), (0, 1, 1),
+    (1, 0, -4), (3, 1, -1),
+)
 
 
 def course_of_square(line, below=1):
@@ -50,7 +58,8 @@ def of_turns(draw):
     yield certificates.certify_pairs(fitting)
     yield certificates.certify_pairs(fitting + ((lights[0], draw.light(2)),))
     yield certificates.certify_pairs(tuple([(light, (*light[:3], -light[3], light[4])) for light in lights]))
-    yield certificates.certify_pairs(fitting[:1] + ((lights[1], (*lights[1][:1], 0, 0, 0, lights[1][4])),) if lights[1][4] == 1 else ())
+    yield certificates.certify_pairs(fitting[:1] + ((lights[1], reduced((*lights[1][:4], lights[1][4] + 1))),))
+    yield certificates.certify_pairs(())
     yield certificates.certify_turn(turn)
     yield certificates.certify_turn(draw.turn(3))
     for light in lights[-1:] + [(2, 1, 0, 1, 1)]:
@@ -62,7 +71,9 @@ def of_beams(draw):
     """Claims about fringes and courses."""
     one, two = draw.matrix(1), draw.matrix(1)
     yield certificates.certify_fringes(one, two)
-    yield certificates.certify_fringes((((1, 0), (0, 0)), ((0, 0), (0, 0))), (((0, 0), (0, 0)), ((0, 1), draw.row(2, 1))))
+    yield certificates.certify_fringes(
+        (((1, 0), (0, 0)), ((0, 0), (0, 0))), (((0, 0), (0, 0)), ((0, 1), draw.row(2, 1))),
+    )
     for share in ((0, 1), (1, 2), (3, 5)):
         light = sharper(one, two, share)
         if light is not None:
@@ -89,7 +100,9 @@ def of_mixtures(draw):
     mixed = [sum(Fraction(light[at], light[4]) * part for part, light in enumerate(lights)) for at in range(4)]
     yield certificates.certify_mixture(lights, row_of(mixed))
     yield certificates.certify_patchwork(tables, draw.table(1))
-    yield certificates.certify_patchwork(tables, table_of_numbers(mixed_rows(tables, (Fraction(1, 2), Fraction(0), Fraction(1, 2)))))
+    yield certificates.certify_patchwork(
+        tables, table_of_numbers(mixed_rows(tables, (Fraction(1, 2), Fraction(0), Fraction(1, 2)))),
+    )
 
 
 def certified(seed, many):
@@ -104,7 +117,8 @@ def certified(seed, many):
 
 
 def bent_number(draw, number):
-    return draw.chance.choice((number + 1, number - 1, -number, 2 * number, 0, 1, True, False, None, str(number), (number,), [number]))
+    strange = (True, False, None, str(number), (number,), [number])
+    return draw.chance.choice((number + 1, number - 1, -number, 2 * number, 0, 1, *strange))
 
 
 def bent(draw, value):
@@ -112,7 +126,8 @@ def bent(draw, value):
     if type(value) is int:
         return bent_number(draw, value)
     if type(value) is not tuple:
-        return draw.chance.choice((value + "x", value[:-1], None, (value,), "alike", "level", "look", "sum", "setting", b"x", ["x"]))
+        words = ("alike", "level", "look", "sum", "setting")
+        return draw.chance.choice((value + "x", value[:-1], None, (value,), b"x", ["x"], *words))
     choice = draw.chance.randint(0, 9)
     if len(value) > 0 and choice < 6:
         at = draw.chance.randrange(len(value))
@@ -121,7 +136,8 @@ def bent(draw, value):
         at = draw.chance.randrange(len(value) - 1)
         return value[:at] + (value[at + 1], value[at]) + value[at + 2:]
     if choice == 7:
-        return draw.chance.choice((list(value), None, (), 1, "", value + (draw.chance.choice((0, 1, (), "x", (0, 1))),), PRICKLY))
+        longer = value + (draw.chance.choice((0, 1, (), "x", (0, 1))),)
+        return draw.chance.choice((list(value), None, (), 1, "", longer, PRICKLY))
     if all(type(part) is int for part in value) and choice == 8:
         return tuple([2 * part for part in value])
     return value[:-1] if draw.chance.randint(0, 1) else value[1:]

@@ -13,8 +13,8 @@ from platelights.tables import is_table
 from platelights.turns import is_turn
 from tests.reckon import bars_all_lights, companion_entry, complex_matrix, diagonal, dot, equation, is_light_row
 from tests.reckon import is_look_row, keeps, led, level_of, multiplied, numbers_of, product, row_of, rows_of
-from tests.reckon import rows_of_matrix, rows_of_stack, rows_of_turn, starred, sum_of_parts, swing_of, upright, weight_of, weighed_equation
-from tests.reckon import worth
+from tests.reckon import rows_of_matrix, rows_of_stack, rows_of_turn, starred, sum_of_parts, swing_of, upright
+from tests.reckon import weighed_equation, weight_of, worth
 from tests.values import Draw
 
 UNIT, NOUGHT = diagonal(1, 1, 1, 1), diagonal(0, 0, 0, 0)
@@ -39,8 +39,10 @@ PARTS = {
     "B": lambda value: are_many(value, is_table, 1, 6), "P": lambda value: are_many(value, is_pair_of_lights, 0, 6),
 }
 FORMS = {
-    "alike": "SS", "unlike": "SS", "keeps": "M", "loses": "M", "made": "M", "not made": "M", "rank": "Mk", "fringes": "JJ",
-    "no fringes": "JJ", "sharper": "JJs", "fits": "RL", "no light": "R", "settled": "RKf", "open": "RK", "mixture": "NL",
+    "alike": "SS", "unlike": "SS", "keeps": "M", "loses": "M", "made": "M", "not made": "M", "rank": "Mk",
+    "fringes": "JJ",
+    "no fringes": "JJ", "sharper": "JJs", "fits": "RL", "no light": "R", "settled": "RKf", "open": "RK",
+    "mixture": "NL",
     "no mixture": "NL", "patchwork": "BM", "no patchwork": "BM", "leads": "PT", "no turn": "P", "order": "Tk",
     "never round": "T", "brighter": "FF", "not brighter": "FF", "one way": "S", "nothing back": "S", "unchanged": "SL",
     "fading": "S", "last level": "SLf", "comes back": "SLk", "never back": "SL",
@@ -156,7 +158,8 @@ def fringe_of(one, two, light):
     """A, B and D by the levels at three phases, z = 1, -1, i."""
     levels = []
     for turned in (1, -1, 1j):
-        whole = [[x + turned * y for x, y in zip(row, other)] for row, other in zip(complex_matrix(one), complex_matrix(two))]
+        pairs = zip(complex_matrix(one), complex_matrix(two))
+        whole = [[x + turned * y for x, y in zip(row, other)] for row, other in pairs]
         gaussians = tuple([tuple([(int(x.real), int(x.imag)) for x in row]) for row in whole])
         levels.append(led(rows_of_matrix(gaussians), numbers_of(light))[0])
     mean = (levels[0] + levels[1]) / 2
@@ -279,7 +282,8 @@ def shows_no_turn(claim, paper):
 
 def numbers_less(claim):
     """The five numbers of the course of the difference, without a common divisor with what they are over."""
-    return row_of([Fraction(one, claim[1][5]) - Fraction(two, claim[2][5]) for one, two in zip(claim[1][:5], claim[2][:5])])[:5]
+    (*numbers, below), (*others, beside) = claim[1:]
+    return row_of([Fraction(one, below) - Fraction(two, beside) for one, two in zip(numbers, others)])[:5]
 
 
 def shows_courses(claim, paper):

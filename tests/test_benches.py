@@ -21,7 +21,8 @@ I, Q = (1, 0, 0, 0), (1, 1, 0, 0)
 DARK, PLAIN, EAST = (0, 0, 0, 0, 1), (1, 0, 0, 0, 1), (1, 1, 0, 0, 1)
 RIGHT_NAMES = ("a", "z", "lamp", "abcdefghijkl", "zzzzzzzzzzzz", "none", "set", "light", "beam")
 WRONG_NAMES = [value for value in STRANGE if type(value) is not str] + [
-    "", "abcdefghijklm", "A", "Lamp", "lAmp", "a1", "1", "a b", " a", "a ", "a\n", "a-b", "a_b", "a.b", "\u00e9", "\u00df", "a:", ":", "`", "{", "@", "[",
+    "", "abcdefghijklm", "A", "Lamp", "lAmp", "a1", "1", "a b", " a", "a ", "a\n", "a-b", "a_b", "a.b", "\u00e9",
+    "\u00df", "a:", ":", "`", "{", "@", "[",
     b"a", ("a",), ["a"], "a" * 100, 0, "one way",
 ]
 WRONG_FRACTIONS = (None, True, 1, (2, 4), (1, 0), (1, -2), [1, 2], "1/2", (1,), (1, 2, 3), PRICKLY)
@@ -31,23 +32,30 @@ def some_wish(word):
     """A wish of a sort, about beams called beam and other."""
     return {
         "out": ("out", "beam", (1, 1, 0, 0, 2)), "same": ("same", "beam", "other"), "alike": ("alike", "beam", "other"),
-        "at most": ("at most", "beam", I, (1, 2)), "at least": ("at least", "beam", Q, (1, 2)), "turned": ("turned", "beam", 0, I, (1, 2)),
+        "at most": ("at most", "beam", I, (1, 2)), "at least": ("at least", "beam", Q, (1, 2)),
+        "turned": ("turned", "beam", 0, I, (1, 2)),
         "one way": ("one way", "beam"), "fading": ("fading", "beam"),
     }[word]
 
 
 WORDS = ("out", "same", "alike", "at most", "at least", "turned", "one way", "fading")
-WRONG_WISHES = list(STRANGE) + [0, (), ("out",), "out", ("at", "beam", I, (1, 2)), ("at  most", "beam", I, (1, 2)), ("at_most", "beam", I, (1, 2))]
+WRONG_WISHES = list(STRANGE) + [
+    0, (), ("out",), "out", ("at", "beam", I, (1, 2)), ("at  most", "beam", I, (1, 2)), ("at_most", "beam", I, (1, 2)),
+]
 for _word in WORDS:
     _wish = some_wish(_word)
-    WRONG_WISHES += [list(_wish), _wish + ((),), _wish + _wish[-1:], _wish[:-1], _wish[1:], (_word.upper(), *_wish[1:]), (None, *_wish[1:]), (PRICKLY, *_wish[1:])]
+    WRONG_WISHES += [
+        list(_wish), _wish + ((),), _wish + _wish[-1:], _wish[:-1], _wish[1:], (_word.upper(), *_wish[1:]),
+        (None, *_wish[1:]), (PRICKLY, *_wish[1:]),
+    ]
     WRONG_WISHES += [(_word, name, *_wish[2:]) for name in WRONG_NAMES]
 WRONG_WISHES += [("out", "beam", light) for light in WRONG_LIGHTS]
 WRONG_WISHES += [(word, "beam", name) for word in ("same", "alike") for name in WRONG_NAMES]
 WRONG_WISHES += [(word, "beam", look, (1, 2)) for word in ("at most", "at least") for look in WRONG_LOOKS]
 WRONG_WISHES += [(word, "beam", I, part) for word in ("at most", "at least") for part in WRONG_FRACTIONS]
 WRONG_WISHES += [("turned", "beam", at, I, (1, 2)) for at in NO_WHOLES + (-1, 8, BIG)]
-WRONG_WISHES += [("turned", "beam", 0, look, (1, 2)) for look in WRONG_LOOKS] + [("turned", "beam", 0, I, part) for part in WRONG_FRACTIONS]
+WRONG_WISHES += [("turned", "beam", 0, look, (1, 2)) for look in WRONG_LOOKS]
+WRONG_WISHES += [("turned", "beam", 0, I, part) for part in WRONG_FRACTIONS]
 
 
 class Model:
@@ -166,7 +174,8 @@ class BenchTest(Case):
         bench.drop(name="first")
         self.assertEqual((bench.plates, bench.tried(action=len)), ((), 7))
         for name, parameters in (
-            ("put_light", "name light"), ("put_plate", "name plate"), ("lay", "name light plates"), ("drop", "name"), ("thing", "name"), ("stack", "name"),
+            ("put_light", "name light"), ("put_plate", "name plate"), ("lay", "name light plates"), ("drop", "name"),
+            ("thing", "name"), ("stack", "name"),
             ("out", "name many"), ("wish", "wish"), ("lift", "index"), ("undo", ""), ("trial", ""), ("tried", "action"),
         ):
             self.assertIn(name, vars(Bench))
@@ -257,9 +266,12 @@ class BenchTest(Case):
         self.assertEqual(story_of(bench), before)
         bench.lay("empty", "sun", ())
         bench.lay("full", "sun", ("net",) * 8)
-        self.assertEqual((bench.out("empty"), bench.out("empty", 0), bench.stack("empty")), ((2, 1, 0, 0, 1), (2, 1, 0, 0, 1), ()))
+        self.assertEqual(
+            (bench.out("empty"), bench.out("empty", 0), bench.stack("empty")), ((2, 1, 0, 0, 1), (2, 1, 0, 0, 1), ()),
+        )
         self.assertEqual((bench.out("full"), bench.stack("full")), ((2, 1, 0, 0, 256), (HALF,) * 8))
-        self.assertEqual([bench.out("full", many) for many in (0, 1, 7, 8)], [(2, 1, 0, 0, 1), (2, 1, 0, 0, 2), (2, 1, 0, 0, 128), (2, 1, 0, 0, 256)])
+        for many, below in ((0, 1), (1, 2), (7, 128), (8, 256)):
+            self.assertEqual(bench.out("full", many), (2, 1, 0, 0, below))
         self.refuses(InvalidNumber, "given", 9, lambda: bench.out("full", 9))
         self.refuses(InvalidNumber, "given", 1, lambda: bench.out("empty", 1))
 
@@ -275,7 +287,10 @@ class BenchTest(Case):
         bench.put_light("lamp", EAST)
         bench.put_plate("first", HALF)
         bench.lay("beam", "sun", ("net", "net"))
-        self.assertEqual((bench.thing("lamp"), bench.thing("first"), bench.thing("beam"), len(bench)), (EAST, HALF, ("sun", ("net", "net")), 11))
+        self.assertEqual(
+            (bench.thing("lamp"), bench.thing("first"), bench.thing("beam"), len(bench)),
+            (EAST, HALF, ("sun", ("net", "net")), 11),
+        )
         self.assertEqual(bench.out("beam"), (2, 1, 0, 0, 4))
         bench.lay("beam", "lamp", ())
         for name in ("beam", "other"):
@@ -322,7 +337,9 @@ class BenchTest(Case):
             for word in ("same", "alike"):
                 self.refuses(UnknownName, "given", name, lambda: bench.wish((word, "beam", name)))
                 self.refuses(UnknownName, "given", name, lambda: bench.wish((word, name, "unknown")))
-        for wish in (("same", "unknown", 1), ("alike", 1, "unknown"), ("at most", "unknown", I, None), ("turned", "unknown", 8, I, (1, 1))):
+        for wish in (
+            ("same", "unknown", 1), ("alike", 1, "unknown"), ("at most", "unknown", I, None), ("turned", "unknown", 8, I, (1, 1)),
+        ):
             self.refuses(InvalidWish, "given", wish, lambda: bench.wish(wish))
         self.assertEqual(story_of(bench), before)
 
@@ -364,7 +381,8 @@ class BenchTest(Case):
     def starts(self, wish):
         """Beams, each a light and plates, for which a wish holds."""
         return {
-            "out": [], "same": [(PLAIN, ())], "alike": [(PLAIN, ())], "at most": [(DARK, ())], "at least": [((BIG, 0, 0, 0, 1), ())],
+            "out": [], "same": [(PLAIN, ())], "alike": [(PLAIN, ())], "at most": [(DARK, ())],
+            "at least": [((BIG, 0, 0, 0, 1), ())],
             "turned": [(DARK, (HALF,) * 8)], "one way": [(PLAIN, ONE_WAY[0])], "fading": [(PLAIN, (HALF,))],
         }[wish[0]]
 
@@ -391,22 +409,37 @@ class BenchTest(Case):
     def test_each_sort_of_wish_just_holds_and_just_fails(self):
         tiny = (BIG + 1, 2 * BIG)
         for light, plates, wish, told in (
-            (PLAIN, (ALONG,), ("out", "beam", (1, 1, 0, 0, 2)), True), (PLAIN, (ALONG,), ("out", "beam", (1, 1, 0, 0, 3)), False), (PLAIN, (), ("out", "beam", PLAIN), True),
-            (PLAIN, (ALONG, UPRIGHT), ("out", "beam", DARK), True), (PLAIN, (ALONG,), ("at most", "beam", I, (1, 2)), True), (PLAIN, (ALONG,), ("at most", "beam", I, (BIG - 1, 2 * BIG)), False),
-            (PLAIN, (ALONG,), ("at least", "beam", I, (1, 2)), True), (PLAIN, (ALONG,), ("at least", "beam", I, tiny), False), (PLAIN, (ALONG,), ("at most", "beam", (1, -1, 0, 0), (0, 1)), True),
-            (PLAIN, (ALONG,), ("at least", "beam", (2, 1, 0, 0), (3, 2)), True), (PLAIN, (ALONG,), ("at most", "beam", I, (-1, 2)), False), (PLAIN, (ALONG,), ("at least", "beam", I, (-1, 2)), True),
-            (PLAIN, ONE_WAY[0], ("one way", "beam"), True), (PLAIN, ONE_WAY[0][::-1], ("one way", "beam"), False), (PLAIN, ONE_WAY[1], ("one way", "beam"), True),
-            (PLAIN, (), ("one way", "beam"), False), (PLAIN, (ALONG, UPRIGHT), ("one way", "beam"), False), (PLAIN, (ALONG, ("magnet", (1, 1))), ("one way", "beam"), False),
-            (PLAIN, (("grey", (BIG - 1, BIG)),), ("fading", "beam"), True), (PLAIN, (), ("fading", "beam"), False), (DARK, (), ("fading", "beam"), False), (PLAIN, (ALONG, SLANT), ("fading", "beam"), True),
-            (PLAIN, (("dull", (0, 1)),), ("fading", "beam"), False), (PLAIN, (ALONG,), ("fading", "beam"), False), (PLAIN, (ALONG, ("turner", (0, 0, 0, 1))), ("fading", "beam"), True),
-            (PLAIN, (ALONG, ("turner", (BIG, 0, 0, 1))), ("fading", "beam"), True), (DARK, (("grey", (0, 1)),), ("fading", "beam"), True),
+            (PLAIN, (ALONG,), ("out", "beam", (1, 1, 0, 0, 2)), True),
+            (PLAIN, (ALONG,), ("out", "beam", (1, 1, 0, 0, 3)), False), (PLAIN, (), ("out", "beam", PLAIN), True),
+            (PLAIN, (ALONG, UPRIGHT), ("out", "beam", DARK), True),
+            (PLAIN, (ALONG,), ("at most", "beam", I, (1, 2)), True),
+            (PLAIN, (ALONG,), ("at most", "beam", I, (BIG - 1, 2 * BIG)), False),
+            (PLAIN, (ALONG,), ("at least", "beam", I, (1, 2)), True),
+            (PLAIN, (ALONG,), ("at least", "beam", I, tiny), False),
+            (PLAIN, (ALONG,), ("at most", "beam", (1, -1, 0, 0), (0, 1)), True),
+            (PLAIN, (ALONG,), ("at least", "beam", (2, 1, 0, 0), (3, 2)), True),
+            (PLAIN, (ALONG,), ("at most", "beam", I, (-1, 2)), False),
+            (PLAIN, (ALONG,), ("at least", "beam", I, (-1, 2)), True),
+            (PLAIN, ONE_WAY[0], ("one way", "beam"), True), (PLAIN, ONE_WAY[0][::-1], ("one way", "beam"), False),
+            (PLAIN, ONE_WAY[1], ("one way", "beam"), True),
+            (PLAIN, (), ("one way", "beam"), False), (PLAIN, (ALONG, UPRIGHT), ("one way", "beam"), False),
+            (PLAIN, (ALONG, ("magnet", (1, 1))), ("one way", "beam"), False),
+            (PLAIN, (("grey", (BIG - 1, BIG)),), ("fading", "beam"), True), (PLAIN, (), ("fading", "beam"), False),
+            (DARK, (), ("fading", "beam"), False), (PLAIN, (ALONG, SLANT), ("fading", "beam"), True),
+            (PLAIN, (("dull", (0, 1)),), ("fading", "beam"), False), (PLAIN, (ALONG,), ("fading", "beam"), False),
+            (PLAIN, (ALONG, ("turner", (0, 0, 0, 1))), ("fading", "beam"), True),
+            (PLAIN, (ALONG, ("turner", (BIG, 0, 0, 1))), ("fading", "beam"), True),
+            (DARK, (("grey", (0, 1)),), ("fading", "beam"), True),
         ):
             with self.subTest(wish=wish, plates=plates):
                 self.wish_of(light, plates, wish, told)
         for plates, others, word, told in (
-            ((ALONG,), (ALONG, ALONG), "same", True), ((ALONG,), (ALONG, ALONG), "alike", True), ((ALONG,), (SLANT,), "same", False), ((), (("glass",),), "same", True),
-            ((), (("glass",),), "alike", False), ((("magnet", (1, 1)),), (("turner", (1, 0, 0, 1)),), "alike", True), ((), (("grey", (1, 1)),), "alike", True),
-            ((), (("grey", (BIG - 1, BIG)),), "same", False), ((("dull", (1, 2)),), (), "same", True), ((("dull", (1, 2)),), (), "alike", False),
+            ((ALONG,), (ALONG, ALONG), "same", True), ((ALONG,), (ALONG, ALONG), "alike", True),
+            ((ALONG,), (SLANT,), "same", False), ((), (("glass",),), "same", True),
+            ((), (("glass",),), "alike", False), ((("magnet", (1, 1)),), (("turner", (1, 0, 0, 1)),), "alike", True),
+            ((), (("grey", (1, 1)),), "alike", True),
+            ((), (("grey", (BIG - 1, BIG)),), "same", False), ((("dull", (1, 2)),), (), "same", True),
+            ((("dull", (1, 2)),), (), "alike", False),
         ):
             with self.subTest(word=word, plates=plates, others=others):
                 self.wish_of(PLAIN, plates, (word, "beam", "other"), told, others)
@@ -417,16 +450,26 @@ class BenchTest(Case):
     def test_plates_that_are_turned_on(self):
         for light, plates, wish, told in (
             (EAST, (ALONG,), ("turned", "beam", 0, I, (1, 1)), True),
-            (EAST, (ALONG,), ("turned", "beam", 0, I, (BIG - 1, BIG)), False), (PLAIN, (ALONG,), ("turned", "beam", 0, I, (1, 2)), True), (PLAIN, (ALONG,), ("turned", "beam", 1, I, (1, 2)), False),
-            (PLAIN, (), ("turned", "beam", 0, I, (BIG, 1)), False), (PLAIN, (ALONG,) * 8, ("turned", "beam", 7, I, (1, 2)), True), (PLAIN, (ALONG,) * 8, ("turned", "beam", 7, I, (499, 1000)), False),
-            (PLAIN, (ALONG,) * 7, ("turned", "beam", 7, I, (1, 1)), False), (PLAIN, (ALONG, UPRIGHT), ("turned", "beam", 1, I, (1, 2)), True), (PLAIN, (ALONG, UPRIGHT), ("turned", "beam", 0, I, (1, 4)), False),
-            (PLAIN, (ALONG, ("turner", (0, 1, 0, 0)), UPRIGHT), ("turned", "beam", 1, I, (1, 2)), True), (PLAIN, (ALONG, ("turner", (0, 1, 0, 0)), UPRIGHT), ("turned", "beam", 1, I, (49, 100)), False),
-            (PLAIN, (ALONG, ("glass",)), ("turned", "beam", 1, Q, (1, 1)), True), (EAST, (("set", (1, 3), ALONG),), ("turned", "beam", 0, I, (1, 1)), True),
-            (EAST, (("set", (1, 3), ALONG),), ("turned", "beam", 0, I, (99, 100)), False), (DARK, (ALONG,), ("turned", "beam", 0, I, (0, 1)), True), (DARK, (ALONG,), ("turned", "beam", 0, I, (-1, BIG)), False),
+            (EAST, (ALONG,), ("turned", "beam", 0, I, (BIG - 1, BIG)), False),
+            (PLAIN, (ALONG,), ("turned", "beam", 0, I, (1, 2)), True),
+            (PLAIN, (ALONG,), ("turned", "beam", 1, I, (1, 2)), False),
+            (PLAIN, (), ("turned", "beam", 0, I, (BIG, 1)), False),
+            (PLAIN, (ALONG,) * 8, ("turned", "beam", 7, I, (1, 2)), True),
+            (PLAIN, (ALONG,) * 8, ("turned", "beam", 7, I, (499, 1000)), False),
+            (PLAIN, (ALONG,) * 7, ("turned", "beam", 7, I, (1, 1)), False),
+            (PLAIN, (ALONG, UPRIGHT), ("turned", "beam", 1, I, (1, 2)), True),
+            (PLAIN, (ALONG, UPRIGHT), ("turned", "beam", 0, I, (1, 4)), False),
+            (PLAIN, (ALONG, ("turner", (0, 1, 0, 0)), UPRIGHT), ("turned", "beam", 1, I, (1, 2)), True),
+            (PLAIN, (ALONG, ("turner", (0, 1, 0, 0)), UPRIGHT), ("turned", "beam", 1, I, (49, 100)), False),
+            (PLAIN, (ALONG, ("glass",)), ("turned", "beam", 1, Q, (1, 1)), True),
+            (EAST, (("set", (1, 3), ALONG),), ("turned", "beam", 0, I, (1, 1)), True),
+            (EAST, (("set", (1, 3), ALONG),), ("turned", "beam", 0, I, (99, 100)), False),
+            (DARK, (ALONG,), ("turned", "beam", 0, I, (0, 1)), True),
+            (DARK, (ALONG,), ("turned", "beam", 0, I, (-1, BIG)), False),
         ):
             with self.subTest(wish=wish, plates=plates):
                 self.wish_of(light, plates, wish, told)
-        # Of this light the level goes to (2 + root 2) / 2, at an angle that no setting tells; root 2 lies between two ratios.
+        # Of this light the level goes to (2 + root 2) / 2, at an angle that no setting tells.
         low = isqrt(2 * 10 ** 78)
         for above, told in ((0, False), (1, True)):
             most = Fraction(2 * 10 ** 39 + low + above, 2 * 10 ** 39)
@@ -434,7 +477,10 @@ class BenchTest(Case):
 
     def test_changes_that_break_several_wishes(self):
         bench = filled()
-        for wish in (("at least", "other", I, (1, 4)), ("at least", "beam", I, (1, 2)), ("at most", "beam", I, (1, 2)), ("alike", "beam", "beam"), ("out", "beam", (1, 1, 0, 0, 2))):
+        for wish in (
+            ("at least", "other", I, (1, 4)), ("at least", "beam", I, (1, 2)), ("at most", "beam", I, (1, 2)),
+            ("alike", "beam", "beam"), ("out", "beam", (1, 1, 0, 0, 2)),
+        ):
             bench.wish(wish)
         self.keeps_still(bench, Broken, "index", 1, lambda: bench.put_light("lamp", DARK))
         self.keeps_still(bench, Broken, "index", 2, lambda: bench.put_light("lamp", (2, 0, 0, 0, 1)))
@@ -454,8 +500,10 @@ class BenchTest(Case):
         bench = filled()
         told, wish = [], ("at most", "beam", I, (1, 2))
         for change in (
-            lambda: bench.wish(wish), lambda: bench.put_light("lamp", PLAIN), lambda: bench.drop("net"), lambda: bench.lift(0), lambda: bench.put_light("lamp", (7, 0, 0, 0, 1)),
-            lambda: bench.lay("beam", "sun", ()), lambda: bench.drop("beam"), lambda: bench.wish(("fading", "other")), lambda: bench.put_plate("last", UPRIGHT),
+            lambda: bench.wish(wish), lambda: bench.put_light("lamp", PLAIN), lambda: bench.drop("net"),
+            lambda: bench.lift(0), lambda: bench.put_light("lamp", (7, 0, 0, 0, 1)),
+            lambda: bench.lay("beam", "sun", ()), lambda: bench.drop("beam"), lambda: bench.wish(("fading", "other")),
+            lambda: bench.put_plate("last", UPRIGHT),
         ):
             told.append(whole_of(bench))
             self.assertIsNone(change())
@@ -600,7 +648,8 @@ class BenchTest(Case):
 
     def drawn_change(self, draw, bench):
         """A change by chance: its name for the model, and its arguments."""
-        word = draw.chance.choice(("put_light", "put_light", "put_plate", "put_plate", "lay", "lay", "drop", "wish", "wish", "wish", "lift", "undo"))
+        words = ("put_light", "put_plate", "lay") * 2 + ("wish",) * 3 + ("drop", "lift", "undo")
+        word = draw.chance.choice(words)
         own = {"put_light": "ab", "put_plate": "cd", "lay": "ef"}.get(word, "abcdef")
         name = draw.chance.choice(own if draw.chance.randint(0, 5) else "abcdefg")
         names = bench.beams or ("a",)
@@ -619,8 +668,10 @@ class BenchTest(Case):
             return word, ()
         one, two = draw.chance.choice(names), draw.chance.choice(names)
         return word, (draw.chance.choice((
-            ("same", one, two), ("alike", one, two), ("at most", one, I, draw.fraction(4)), ("at least", one, Q, (0, 1)), ("at most", one, Q, (2, 1)),
-            ("turned", one, draw.chance.randint(0, 1), I, (draw.chance.randint(1, 9), 1)), ("fading", one), ("one way", one), ("out", one, PLAIN), ("out", one, DARK),
+            ("same", one, two), ("alike", one, two), ("at most", one, I, draw.fraction(4)),
+            ("at least", one, Q, (0, 1)), ("at most", one, Q, (2, 1)),
+            ("turned", one, draw.chance.randint(0, 1), I, (draw.chance.randint(1, 9), 1)), ("fading", one),
+            ("one way", one), ("out", one, PLAIN), ("out", one, DARK),
         )),)
 
     def expected(self, model, word, arguments):
@@ -694,8 +745,10 @@ class BenchTest(Case):
                 self.assertEqual(whole_of(bench), models[-1].whole(len(models) - 1))
                 self.assertIsNone(models[-1].broken())
         for key in (
-            ("put_light", None), ("put_light", NameTaken), ("put_light", Broken), ("put_plate", None), ("put_plate", NameTaken), ("put_plate", Broken), ("lay", None), ("lay", UnknownName),
-            ("lay", NameTaken), ("lay", Broken), ("drop", None), ("drop", UnknownName), ("drop", InUse), ("drop", Broken), ("wish", None), ("wish", UnknownName), ("wish", Broken), ("lift", None),
+            ("put_light", None), ("put_light", NameTaken), ("put_light", Broken), ("put_plate", None),
+            ("put_plate", NameTaken), ("put_plate", Broken), ("lay", None), ("lay", UnknownName),
+            ("lay", NameTaken), ("lay", Broken), ("drop", None), ("drop", UnknownName), ("drop", InUse),
+            ("drop", Broken), ("wish", None), ("wish", UnknownName), ("wish", Broken), ("lift", None),
             ("lift", InvalidIndex),
         ):
             self.assertGreater(seen.get(key, 0), 2, (key, seen))

@@ -49,7 +49,10 @@ class CertificatesTest(Case):
         self.gives((("order", (1, 1, 1, 1), 3), ()), certify_turn, (1, 1, 1, 1))
         self.gives((("never round", (2, 1, 0, 0)), ()), certify_turn, (2, 1, 0, 0))
         self.gives((("comes back", CYCLE, EAST, 3), ()), certify_return, CYCLE, EAST)
-        self.gives((("not brighter", MALUS, (0, 0, 0, 0, 0, 1)), ("setting", (1, 0))), certify_courses, MALUS, level_course((0, 1)))
+        self.gives(
+            (("not brighter", MALUS, (0, 0, 0, 0, 0, 1)), ("setting", (1, 0))), certify_courses, MALUS,
+            level_course((0, 1)),
+        )
 
     def test_stacks(self):
         draw, seen = Draw(1), {True: 0, False: 0}
@@ -65,7 +68,8 @@ class CertificatesTest(Case):
 
     def test_keepers_and_made_tables(self):
         draw, seen = Draw(2), {}
-        tables = [UNIT, GLASS, NOUGHT] + [draw.table(1) for _ in range(30)] + [table_of_stack(draw.stack(3)) for _ in range(30)]
+        tables = [UNIT, GLASS, NOUGHT] + [draw.table(1) for _ in range(30)]
+        tables += [table_of_stack(draw.stack(3)) for _ in range(30)]
         for table in tables:
             word, rank = "keeps" if keeps_all_lights(table) else "loses", made_rank(table)
             self.check(word, certify_keeper, table)
@@ -85,8 +89,10 @@ class CertificatesTest(Case):
             self.assertIn(word, ("fringes", "no fringes"))
             self.check(word, certify_fringes, one, two)
         for one, two, word in (
-            (BEAM, UP, "no fringes"), (BEAM, WHOLE, "fringes"), (WHOLE, ((O, O), (O, O)), "no fringes"), (BEAM, ((O, J), (O, O)), "fringes"),
-            (BEAM, ((O, (0, 1)), (O, O)), "fringes"), (UP, WHOLE, "fringes"), (WHOLE, ((O, (0, -1)), ((0, 1), O)), "fringes"), (WHOLE, ((J, O), (O, (-1, 0))), "fringes"),
+            (BEAM, UP, "no fringes"), (BEAM, WHOLE, "fringes"), (WHOLE, ((O, O), (O, O)), "no fringes"),
+            (BEAM, ((O, J), (O, O)), "fringes"),
+            (BEAM, ((O, (0, 1)), (O, O)), "fringes"), (UP, WHOLE, "fringes"),
+            (WHOLE, ((O, (0, -1)), ((0, 1), O)), "fringes"), (WHOLE, ((J, O), (O, (-1, 0))), "fringes"),
         ):
             self.check(word, certify_fringes, one, two)
 
@@ -112,8 +118,10 @@ class CertificatesTest(Case):
         one, ray, none = (("level", I, (1, 1)), ("level", Q, (2, 1))), (("level", Q, (0, 1)),), (("level", I, (0, 1)),)
         tight = (("level", I, (BIG, 1)), ("level", (1, 0, 1, 0), (2 * BIG - 1, 1)), ("level", (1, 0, 0, 1), (BIG, 1)))
         for readings, look, word in (
-            (one, (1, 0, 1, 0), "settled"), (one, (1, -1, 0, 0), "settled"), (one, (3, 1, 0, 0), "settled"), (ray, Q, "settled"), (ray, I, "open"),
-            (ray, (1, 0, 1, 0), "open"), (none, Q, "settled"), (none, I, "settled"), ((), I, "open"), (tight, Q, "open"), (tight, (2, 0, 1, 1), "settled"),
+            (one, (1, 0, 1, 0), "settled"), (one, (1, -1, 0, 0), "settled"), (one, (3, 1, 0, 0), "settled"),
+            (ray, Q, "settled"), (ray, I, "open"),
+            (ray, (1, 0, 1, 0), "open"), (none, Q, "settled"), (none, I, "settled"), ((), I, "open"),
+            (tight, Q, "open"), (tight, (2, 0, 1, 1), "settled"),
             (none * 8, LOOK, "settled"), ((("level", I, (1, BIG)),), Q, "open"), (one * 4, (9, 1, 2, 3), "settled"),
         ):
             self.check(word, certify_look, readings, look)
@@ -153,7 +161,8 @@ class CertificatesTest(Case):
         self.assertEqual(set(words) - {()}, {("level",), ("product",), ("hand",)})
         self.check("leads", certify_pairs, ())
         for turn, order in (
-            ((1, 0, 0, 0), 1), ((0, 1, 2, 3), 2), ((1, 1, 1, 1), 3), ((1, 0, 1, 0), 4), ((3, 1, 1, 1), 6), ((2, 1, 0, 0), None), ((1, 1, 1, 0), None),
+            ((1, 0, 0, 0), 1), ((0, 1, 2, 3), 2), ((1, 1, 1, 1), 3), ((1, 0, 1, 0), 4), ((3, 1, 1, 1), 6),
+            ((2, 1, 0, 0), None), ((1, 1, 1, 0), None),
         ):
             word = "never round" if order is None else "order"
             claim, paper = self.check(word, certify_turn, turn)
@@ -166,8 +175,8 @@ class CertificatesTest(Case):
                 course = course_of_square(line, part)
                 self.seen_in(words, course, other)
                 # The course of the square less nothing, put upon another one, lies on it where the square is 0.
-                lifted = course_of(tuple([one * other[5] + two * course[5] for one, two in zip(course[:5], other[:5])]), course[5] * other[5])
-                self.seen_in(words, lifted, other)
+                numbers = [one * other[5] + two * course[5] for one, two in zip(course[:5], other[:5])]
+                self.seen_in(words, course_of(tuple(numbers), course[5] * other[5]), other)
         for _ in range(60):
             self.seen_in(words, course_of(draw.row(5, 3), draw.chance.randint(1, 4)), course_of(draw.row(5, 3), 3))
             self.seen_in(words, course_of((8, *draw.row(3, 4), 8), 3), course_of((1, 0, 2, 0, 1), 1))
@@ -186,9 +195,12 @@ class CertificatesTest(Case):
     def test_touching_courses(self):
         # A course that is 0 at one setting or at angles that no setting tells, and nowhere below 0.
         for course, sort in (
-            (course_of((1, -2, 2, -2, 1), 1), "setting"), (course_of((4, -4, 5, -4, 1), 1), "setting"), (course_of((1, -4, 6, -4, 1), 3), "setting"),
-            (course_of((16, -32, 24, -8, 1), 1), "setting"), (course_of((81, 108, 54, 12, 1), 1), "setting"), (MALUS, "setting"), (course_of((0, 0, 1, 0, 1), 1), "setting"),
-            (course_of((4, 0, -4, 0, 1), 1), "square"), (course_of((1, 2, -1, -2, 1), 7), "square"), (course_of((8, 0, -8, 0, 2), 1), "square"), (course_of((0, 0, 0, 0, 0), 1), "setting"),
+            (course_of((1, -2, 2, -2, 1), 1), "setting"), (course_of((4, -4, 5, -4, 1), 1), "setting"),
+            (course_of((1, -4, 6, -4, 1), 3), "setting"),
+            (course_of((16, -32, 24, -8, 1), 1), "setting"), (course_of((81, 108, 54, 12, 1), 1), "setting"),
+            (MALUS, "setting"), (course_of((0, 0, 1, 0, 1), 1), "setting"),
+            (course_of((4, 0, -4, 0, 1), 1), "square"), (course_of((1, 2, -1, -2, 1), 7), "square"),
+            (course_of((8, 0, -8, 0, 2), 1), "square"), (course_of((0, 0, 0, 0, 0), 1), "setting"),
             (course_of((27, -36, 21, -12, 4), 1), "setting"), (course_of((9, 0, -6, 0, 1), 2), "square"),
         ):
             _, paper = self.check("not brighter", certify_courses, course, level_course((0, 1)))
@@ -197,7 +209,8 @@ class CertificatesTest(Case):
     def test_rounds(self):
         draw, words = Draw(9), {}
         cross = (ALONG, ("turner", (0, 0, 0, 1)))
-        for stack in [(), (ALONG,), (HALF,), cross, CYCLE, (("dull", (1, 2)),), (ALONG, UPRIGHT), (ALONG, SLANT)] + [draw.stack(3) for _ in range(30)]:
+        stacks = [(), (ALONG,), (HALF,), cross, CYCLE, (("dull", (1, 2)),), (ALONG, UPRIGHT), (ALONG, SLANT)]
+        for stack in stacks + [draw.stack(3) for _ in range(30)]:
             word = certify_rounds(stack)[0][0]
             self.assertIn(word, ("fading", "unchanged"))
             self.check(word, certify_rounds, stack)
@@ -239,21 +252,32 @@ class CertificatesTest(Case):
     def test_wrong_arguments(self):
         stack = Argument("stack", (ALONG,), InvalidStack, (), wrong_lists(ALONG, WRONG_PLATES, 8))
         other = Argument("other", (SLANT,), InvalidStack, (), wrong_lists(ALONG, WRONG_PLATES, 8))
-        table, light = Argument("table", GLASS, InvalidTable, WRONG_TABLES), Argument("light", LAMP, InvalidLight, WRONG_LIGHTS)
+        table, light = Argument(
+            "table", GLASS, InvalidTable, WRONG_TABLES,
+        ), Argument("light", LAMP, InvalidLight, WRONG_LIGHTS)
         readings = Argument("readings", (LEVEL,), InvalidReadings, (), wrong_lists(LEVEL, WRONG_READINGS, 8))
         lights = Argument("lights", (EAST,), InvalidLights, (), wrong_lists(LAMP, WRONG_LIGHTS, 8) + [((), None)])
         tables = Argument("tables", (UNIT,), InvalidTables, (), wrong_lists(UNIT, WRONG_TABLES, 6) + [((), None)])
         self.checks_arguments(certify_stacks, stack, other)
         self.checks_arguments(certify_keeper, table)
         self.checks_arguments(certify_made, table)
-        self.checks_arguments(certify_fringes, Argument("one", BEAM, InvalidMatrix, WRONG_MATRICES), Argument("two", WHOLE, InvalidMatrix, WRONG_MATRICES))
+        self.checks_arguments(
+            certify_fringes, Argument("one", BEAM, InvalidMatrix, WRONG_MATRICES),
+            Argument("two", WHOLE, InvalidMatrix, WRONG_MATRICES),
+        )
         self.checks_arguments(certify_readings, readings)
         self.checks_arguments(certify_look, readings, Argument("look", LOOK, InvalidLook, WRONG_LOOKS))
         self.checks_arguments(certify_mixture, lights, light)
         self.checks_arguments(certify_patchwork, tables, table)
-        self.checks_arguments(certify_pairs, Argument("pairs", ((EAST, NORTH),), InvalidPairs, (), wrong_lists((LAMP, LAMP), WRONG_PAIRS, 6)))
+        self.checks_arguments(
+            certify_pairs,
+            Argument("pairs", ((EAST, NORTH),), InvalidPairs, (), wrong_lists((LAMP, LAMP), WRONG_PAIRS, 6)),
+        )
         self.checks_arguments(certify_turn, Argument("turn", (1, 1, 0, 0), InvalidTurn, WRONG_TURNS))
-        self.checks_arguments(certify_courses, Argument("course", MALUS, InvalidCourse, WRONG_COURSES), Argument("other", MALUS, InvalidCourse, WRONG_COURSES))
+        self.checks_arguments(
+            certify_courses, Argument("course", MALUS, InvalidCourse, WRONG_COURSES),
+            Argument("other", MALUS, InvalidCourse, WRONG_COURSES),
+        )
         self.checks_arguments(certify_rounds, stack)
         self.checks_arguments(certify_level, stack, light)
         self.checks_arguments(certify_return, stack, light)

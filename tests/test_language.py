@@ -187,7 +187,9 @@ class LanguageTest(unittest.TestCase):
                 reads = [part.id for part in ast.walk(node) if isinstance(part, ast.Name) and isinstance(part.ctx, ast.Load)]
                 self.assertEqual(set(reads) & {"value", "trace"}, set(), place)
                 for part in ast.walk(node):
-                    self.assertNotIsInstance(part, (ast.Call, ast.BinOp, ast.Subscript, ast.For, ast.While, ast.Raise), place)
+                    self.assertNotIsInstance(
+                        part, (ast.Call, ast.BinOp, ast.Subscript, ast.For, ast.While, ast.Raise), place,
+                    )
                     if isinstance(part, ast.If):
                         self.assertEqual(ast.unparse(part.test), "kind is not None", place)
 

@@ -97,10 +97,14 @@ class MixingTest(Case):
     def test_edges_of_mixtures(self):
         eight = (EAST, WEST, NORTH, SOUTH, UP, DOWN, PLAIN, DARK)
         for lights, light, told in (
-            ((EAST,), EAST, True), ((EAST,), (3, 3, 0, 0, 7), True), ((EAST,), DARK, True), ((DARK,), DARK, True), ((DARK,), EAST, False),
-            ((EAST,), PLAIN, False), ((PLAIN,), EAST, False), ((EAST, EAST), EAST, True), ((EAST, EAST), WEST, False), (eight, LAMP, True),
-            ((DARK, DARK), PLAIN, False), ((DARK, EAST, WEST), BRIGHT, True), (eight, DARK, True), (eight, (5, 3, 4, 0, 5), False),
-            ((EAST, NORTH), (2, 1, 1, 0, 1), True), ((EAST, NORTH), (3, 1, 1, 0, 1), False), ((EAST, WEST, NORTH), SOUTH, False),
+            ((EAST,), EAST, True), ((EAST,), (3, 3, 0, 0, 7), True), ((EAST,), DARK, True), ((DARK,), DARK, True),
+            ((DARK,), EAST, False),
+            ((EAST,), PLAIN, False), ((PLAIN,), EAST, False), ((EAST, EAST), EAST, True), ((EAST, EAST), WEST, False),
+            (eight, LAMP, True),
+            ((DARK, DARK), PLAIN, False), ((DARK, EAST, WEST), BRIGHT, True), (eight, DARK, True),
+            (eight, (5, 3, 4, 0, 5), False),
+            ((EAST, NORTH), (2, 1, 1, 0, 1), True), ((EAST, NORTH), (3, 1, 1, 0, 1), False),
+            ((EAST, WEST, NORTH), SOUTH, False),
             ((EAST, WEST, NORTH, SOUTH), UP, False), ((EAST, WEST, NORTH, SOUTH), (2, 1, 1, 0, 1), True),
         ):
             self.assertEqual(self.check(lights, light), told)
@@ -118,11 +122,16 @@ class MixingTest(Case):
 
     def test_fewest_lights(self):
         for lights, light, told in (
-            ((EAST, WEST, NORTH, SOUTH), PLAIN, (0, 1)), ((NORTH, EAST, WEST, SOUTH), PLAIN, (0, 3)), ((EAST, PLAIN, PLAIN), BRIGHT, (1,)),
-            ((NORTH, EAST, SOUTH, WEST, UP, DOWN), (4, 0, 0, 0, 3), (0, 2)), ((DARK, EAST), DARK, (0,)), ((EAST, DARK), DARK, (0,)),
-            ((DARK, EAST), EAST, (1,)), ((EAST, WEST, NORTH), (3, 1, 1, 0, 1), (0, 1, 2)), ((EAST, WEST, UP, NORTH), (4, 1, 1, 1, 1), (0, 1, 2, 3)),
-            ((DARK, DARK, EAST, EAST), (2, 2, 0, 0, 1), (2,)), ((EAST, NORTH, UP, DOWN, SOUTH, WEST, DARK), (2, 0, 0, 1, 1), (2, 3)),
-            ((PLAIN, EAST, WEST), (3, 1, 0, 0, 1), (0, 1)), ((WEST, EAST, PLAIN), (3, 1, 0, 0, 1), (0, 1)), ((EAST,), NORTH, None),
+            ((EAST, WEST, NORTH, SOUTH), PLAIN, (0, 1)), ((NORTH, EAST, WEST, SOUTH), PLAIN, (0, 3)),
+            ((EAST, PLAIN, PLAIN), BRIGHT, (1,)),
+            ((NORTH, EAST, SOUTH, WEST, UP, DOWN), (4, 0, 0, 0, 3), (0, 2)), ((DARK, EAST), DARK, (0,)),
+            ((EAST, DARK), DARK, (0,)),
+            ((DARK, EAST), EAST, (1,)), ((EAST, WEST, NORTH), (3, 1, 1, 0, 1), (0, 1, 2)),
+            ((EAST, WEST, UP, NORTH), (4, 1, 1, 1, 1), (0, 1, 2, 3)),
+            ((DARK, DARK, EAST, EAST), (2, 2, 0, 0, 1), (2,)),
+            ((EAST, NORTH, UP, DOWN, SOUTH, WEST, DARK), (2, 0, 0, 1, 1), (2, 3)),
+            ((PLAIN, EAST, WEST), (3, 1, 0, 0, 1), (0, 1)), ((WEST, EAST, PLAIN), (3, 1, 0, 0, 1), (0, 1)),
+            ((EAST,), NORTH, None),
         ):
             self.gives(told, fewest_lights, lights, light)
 
@@ -190,14 +199,22 @@ class MixingTest(Case):
 
     def test_edges_of_weights(self):
         for lights, light, index, told in (
-            ((EAST,), EAST, 0, ((1, 1), (1, 1))), ((EAST,), (1, 1, 0, 0, 3), 0, ((1, 3), (1, 3))), ((EAST,), WEST, 0, None),
-            ((DARK,), DARK, 0, None), ((DARK,), EAST, 0, None), ((DARK, EAST), EAST, 0, None), ((DARK, EAST), EAST, 1, ((1, 1), (1, 1))),
-            ((EAST, DARK), DARK, 0, ((0, 1), (0, 1))), ((EAST, EAST), EAST, 0, ((0, 1), (1, 1))), ((EAST, EAST, EAST), EAST, 2, ((0, 1), (1, 1))),
-            ((EAST, WEST, PLAIN), PLAIN, 2, ((0, 1), (1, 1))), ((EAST, WEST, PLAIN), (3, 1, 0, 0, 1), 0, ((1, 1), (2, 1))),
-            ((EAST, WEST, PLAIN), (3, 1, 0, 0, 1), 1, ((0, 1), (1, 1))), ((EAST, WEST, BRIGHT), (3, 1, 0, 0, 1), 2, ((0, 1), (1, 1))),
-            ((EAST, WEST, NORTH, SOUTH), BRIGHT, 3, ((0, 1), (1, 1))), ((EAST, WEST, NORTH, SOUTH), (3, 1, 0, 0, 1), 0, ((1, 1), (2, 1))),
-            ((EAST, WEST, NORTH, SOUTH), (3, 1, 0, 0, 1), 2, ((0, 1), (1, 1))), ((EAST, WEST, NORTH), (3, 1, 1, 0, 1), 2, ((1, 1), (1, 1))),
-            ((PLAIN,) * 8, PLAIN, 7, ((0, 1), (1, 1))), ((EAST, WEST, DARK), PLAIN, 2, None), ((EAST, WEST, DARK), NORTH, 2, None),
+            ((EAST,), EAST, 0, ((1, 1), (1, 1))), ((EAST,), (1, 1, 0, 0, 3), 0, ((1, 3), (1, 3))),
+            ((EAST,), WEST, 0, None),
+            ((DARK,), DARK, 0, None), ((DARK,), EAST, 0, None), ((DARK, EAST), EAST, 0, None),
+            ((DARK, EAST), EAST, 1, ((1, 1), (1, 1))),
+            ((EAST, DARK), DARK, 0, ((0, 1), (0, 1))), ((EAST, EAST), EAST, 0, ((0, 1), (1, 1))),
+            ((EAST, EAST, EAST), EAST, 2, ((0, 1), (1, 1))),
+            ((EAST, WEST, PLAIN), PLAIN, 2, ((0, 1), (1, 1))),
+            ((EAST, WEST, PLAIN), (3, 1, 0, 0, 1), 0, ((1, 1), (2, 1))),
+            ((EAST, WEST, PLAIN), (3, 1, 0, 0, 1), 1, ((0, 1), (1, 1))),
+            ((EAST, WEST, BRIGHT), (3, 1, 0, 0, 1), 2, ((0, 1), (1, 1))),
+            ((EAST, WEST, NORTH, SOUTH), BRIGHT, 3, ((0, 1), (1, 1))),
+            ((EAST, WEST, NORTH, SOUTH), (3, 1, 0, 0, 1), 0, ((1, 1), (2, 1))),
+            ((EAST, WEST, NORTH, SOUTH), (3, 1, 0, 0, 1), 2, ((0, 1), (1, 1))),
+            ((EAST, WEST, NORTH), (3, 1, 1, 0, 1), 2, ((1, 1), (1, 1))),
+            ((PLAIN,) * 8, PLAIN, 7, ((0, 1), (1, 1))), ((EAST, WEST, DARK), PLAIN, 2, None),
+            ((EAST, WEST, DARK), NORTH, 2, None),
         ):
             self.gives(told, weight_range, lights, light, index)
 
@@ -217,8 +234,10 @@ class MixingTest(Case):
             self.gives(tuple(told), needless, lights)
         self.assertGreater(many, 30)
         for lights, told in (
-            ((EAST,), ()), ((DARK,), ()), ((PLAIN,), ()), ((DARK, DARK), (0, 1)), ((EAST, DARK), (1,)), ((EAST, EAST), (0, 1)),
-            ((EAST, (1, 1, 0, 0, 7), WEST), (0, 1)), ((EAST, WEST, NORTH, SOUTH), ()), ((EAST, WEST, NORTH, SOUTH, PLAIN), (4,)),
+            ((EAST,), ()), ((DARK,), ()), ((PLAIN,), ()), ((DARK, DARK), (0, 1)), ((EAST, DARK), (1,)),
+            ((EAST, EAST), (0, 1)),
+            ((EAST, (1, 1, 0, 0, 7), WEST), (0, 1)), ((EAST, WEST, NORTH, SOUTH), ()),
+            ((EAST, WEST, NORTH, SOUTH, PLAIN), (4,)),
             ((EAST, WEST, NORTH, SOUTH, UP, DOWN, PLAIN, DARK), (6, 7)), ((PLAIN, EAST, WEST), (0,)),
         ):
             self.gives(told, needless, lights)
@@ -226,10 +245,14 @@ class MixingTest(Case):
     def test_lights_that_reach_the_same(self):
         square = (EAST, WEST, NORTH, SOUTH)
         for one, two, told in (
-            ((EAST,), ((1, 1, 0, 0, 9),), True), ((EAST,), (EAST, DARK), True), ((DARK,), (DARK, DARK), True), ((EAST,), (DARK,), False),
-            (square, square + (PLAIN,), True), (square, square[::-1], True), (square, square[:3], False), (square, square + (UP,), False),
-            ((EAST, WEST), (WEST, PLAIN, EAST), True), ((EAST, WEST), (EAST, PLAIN), False), ((EAST, WEST), (NORTH, SOUTH), False),
-            ((EAST,), (WEST,), False), ((PLAIN,), (BRIGHT,), True), (square + (UP, DOWN, PLAIN, DARK), (DOWN, UP) + square, True),
+            ((EAST,), ((1, 1, 0, 0, 9),), True), ((EAST,), (EAST, DARK), True), ((DARK,), (DARK, DARK), True),
+            ((EAST,), (DARK,), False),
+            (square, square + (PLAIN,), True), (square, square[::-1], True), (square, square[:3], False),
+            (square, square + (UP,), False),
+            ((EAST, WEST), (WEST, PLAIN, EAST), True), ((EAST, WEST), (EAST, PLAIN), False),
+            ((EAST, WEST), (NORTH, SOUTH), False),
+            ((EAST,), (WEST,), False), ((PLAIN,), (BRIGHT,), True),
+            (square + (UP, DOWN, PLAIN, DARK), (DOWN, UP) + square, True),
         ):
             self.gives(told, reach_the_same, one, two)
             self.gives(told, reach_the_same, two, one)

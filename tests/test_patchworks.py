@@ -108,10 +108,14 @@ class PatchworksTest(Case):
     def test_edges_of_patchworks(self):
         half = table_of_numbers(mixed_rows((UNIT, NOUGHT), (Fraction(1, 2), 0)))
         for tables, table, is_patchwork, is_sum in (
-            ((UNIT,), UNIT, True, True), ((UNIT,), half, False, True), ((UNIT, NOUGHT), half, True, True), ((UNIT,), NOUGHT, False, True),
-            ((NOUGHT,), NOUGHT, True, True), ((NOUGHT,), UNIT, False, False), ((UNIT,) * 6, UNIT, True, True), ((UNIT,) * 6, half, False, True),
-            ((UNIT, NOUGHT), GREY, True, True), ((EAST, WEST), GREY, False, False), ((GREY,), UNIT, False, True), ((UNIT,), GLASS, False, False),
-            ((UNIT, GLASS), GLASS, True, True), ((UNIT, GLASS, DULL), DULL, True, True), ((EAST, WEST, NORTH), UNIT, False, False),
+            ((UNIT,), UNIT, True, True), ((UNIT,), half, False, True), ((UNIT, NOUGHT), half, True, True),
+            ((UNIT,), NOUGHT, False, True),
+            ((NOUGHT,), NOUGHT, True, True), ((NOUGHT,), UNIT, False, False), ((UNIT,) * 6, UNIT, True, True),
+            ((UNIT,) * 6, half, False, True),
+            ((UNIT, NOUGHT), GREY, True, True), ((EAST, WEST), GREY, False, False), ((GREY,), UNIT, False, True),
+            ((UNIT,), GLASS, False, False),
+            ((UNIT, GLASS), GLASS, True, True), ((UNIT, GLASS, DULL), DULL, True, True),
+            ((EAST, WEST, NORTH), UNIT, False, False),
             ((NOUGHT, NOUGHT, EAST, WEST, NORTH, UNIT), half, True, True),
         ):
             self.assertEqual(self.check(tables, table), is_patchwork, (tables, table))
@@ -124,7 +128,8 @@ class PatchworksTest(Case):
     def test_patchworks_at_the_very_edge(self):
         for tables, weights, away in (
             ((UNIT, GLASS), (1, 0), (1 + TINY, -TINY)), ((UNIT, GLASS), (0, 1), (TINY, 1 - TINY)),
-            ((EAST, WEST, NORTH), (0, 0, 1), (-TINY, TINY, 1)), ((EAST, WEST, NORTH), (0, 1, 0), (TINY, 1 - 2 * TINY, TINY)),
+            ((EAST, WEST, NORTH), (0, 0, 1), (-TINY, TINY, 1)),
+            ((EAST, WEST, NORTH), (0, 1, 0), (TINY, 1 - 2 * TINY, TINY)),
             ((EAST, WEST, NORTH, UNIT), (1, 0, 0, 0), (1, TINY, 0, -TINY)),
         ):
             self.assertTrue(self.check(tables, table_of_numbers(mixed_rows(tables, weights))))
@@ -135,8 +140,10 @@ class PatchworksTest(Case):
     def test_fewest_tables(self):
         half = table_of_numbers(mixed_rows((UNIT, GLASS), (Fraction(1, 2), Fraction(1, 2))))
         for tables, table, told in (
-            ((UNIT, GLASS), half, (0, 1)), ((UNIT, GLASS, half), half, (2,)), ((EAST, UNIT, NOUGHT, GLASS), half, (1, 3)),
-            ((UNIT, UNIT), UNIT, (0,)), ((NOUGHT, UNIT, GLASS, UNIT, GLASS), half, (1, 2)), ((NOUGHT, UNIT), NOUGHT, (0,)),
+            ((UNIT, GLASS), half, (0, 1)), ((UNIT, GLASS, half), half, (2,)),
+            ((EAST, UNIT, NOUGHT, GLASS), half, (1, 3)),
+            ((UNIT, UNIT), UNIT, (0,)), ((NOUGHT, UNIT, GLASS, UNIT, GLASS), half, (1, 2)),
+            ((NOUGHT, UNIT), NOUGHT, (0,)),
             ((UNIT, NOUGHT), NOUGHT, (1,)), ((UNIT, GLASS), EAST, None), ((UNIT,), half, None),
         ):
             self.gives(told, fewest_tables, tables, table)
@@ -159,7 +166,9 @@ class PatchworksTest(Case):
         weights.append(1 - sum(weights))
         self.assertTrue(self.check(tuple(tables), table_of_numbers(mixed_rows(tables, weights))))
         self.assertFalse(self.check(tuple(tables), table_of_numbers(mixed_rows(tables, weights[:3]))))
-        self.assertEqual(pair_of(weights[0]), patchwork(tuple(tables), table_of_numbers(mixed_rows(tables, weights)))[0])
+        self.assertEqual(
+            pair_of(weights[0]), patchwork(tuple(tables), table_of_numbers(mixed_rows(tables, weights)))[0],
+        )
 
     def test_wrong_arguments(self):
         some = Argument("tables", (UNIT, EAST), InvalidTables, (), wrong_lists(UNIT, WRONG_TABLES, 6) + [((), None)])

@@ -155,7 +155,10 @@ class RangesTest(Case):
             ((("level", I, (0, 1)),), (3, 2, 2, 1), (whole(0), True, whole(0), True)),
             ((("level", I, (1, 1)), ("level", Q, (2, 1))), U, (whole(1), True, whole(1), True)),
             ((("level", I, (1, 1)), ("level", Q, (1, 1))), U, (whole(0), True, whole(2), True)),
-            ((("level", I, (1, 1)), ("level", Q, (1, 1))), (2, 0, 1, 1), (((2, 1), -1, (2, 1)), True, ((2, 1), 1, (2, 1)), True)),
+            (
+                (("level", I, (1, 1)), ("level", Q, (1, 1))), (2, 0, 1, 1),
+                (((2, 1), -1, (2, 1)), True, ((2, 1), 1, (2, 1)), True),
+            ),
             ((("level", I, (1, 1)), ("level", Q, (3, 2))), U, (((1, 1), -1, (3, 4)), True, ((1, 1), 1, (3, 4)), True)),
         ):
             with self.subTest(readings=readings, look=look):
@@ -215,13 +218,19 @@ class RangesTest(Case):
                 self.gives(told, settled_ratio, readings, look, other)
         self.assertGreater(min(seen.values()), 60)
         for readings, look, other, told in (
-            ((("level", I, (0, 1)),), I, I, None), ((("level", Q, (0, 1)),), Q, I, (0, 1)), ((), I, I, (1, 1)), ((), I, Q, None),
-            ((("level", Q, (0, 1)),), I, Q, None), ((("level", Q, (0, 1)),), Q, Q, None), ((("level", Q, (0, 1)),), (1, -1, 0, 0), I, (2, 1)),
-            (BRIGHT, Q, I, None), (BRIGHT, I, Q, None), (BRIGHT, I, (2, 0, 0, 1), None), (HALF, (1, -1, 0, 0), I, (1, 1)),
-            ((("ratio", Q, I, (3, 2)),), (1, -1, 0, 0), I, (1, 2)), ((("ratio", Q, I, (3, 2)),), (1, -1, 0, 0), Q, (1, 3)),
-            ((("level", Q, (2, 1)), ("level", I, (1, 1))), U, Q, (1, 2)), ((("level", Q, (2, 1)), ("level", I, (1, 1))), (1, -1, 0, 0), Q, (0, 1)),
+            ((("level", I, (0, 1)),), I, I, None), ((("level", Q, (0, 1)),), Q, I, (0, 1)), ((), I, I, (1, 1)),
+            ((), I, Q, None),
+            ((("level", Q, (0, 1)),), I, Q, None), ((("level", Q, (0, 1)),), Q, Q, None),
+            ((("level", Q, (0, 1)),), (1, -1, 0, 0), I, (2, 1)),
+            (BRIGHT, Q, I, None), (BRIGHT, I, Q, None), (BRIGHT, I, (2, 0, 0, 1), None),
+            (HALF, (1, -1, 0, 0), I, (1, 1)),
+            ((("ratio", Q, I, (3, 2)),), (1, -1, 0, 0), I, (1, 2)),
+            ((("ratio", Q, I, (3, 2)),), (1, -1, 0, 0), Q, (1, 3)),
+            ((("level", Q, (2, 1)), ("level", I, (1, 1))), U, Q, (1, 2)),
+            ((("level", Q, (2, 1)), ("level", I, (1, 1))), (1, -1, 0, 0), Q, (0, 1)),
             ((("level", Q, (2, 1)), ("level", I, (1, 1))), Q, (1, -1, 0, 0), None),
-            ((("level", I, (1, 1)), ("level", Q, (3, 2))), Q, I, (3, 2)), ((("level", I, (1, 1)), ("level", Q, (3, 2))), U, I, None),
+            ((("level", I, (1, 1)), ("level", Q, (3, 2))), Q, I, (3, 2)),
+            ((("level", I, (1, 1)), ("level", Q, (3, 2))), U, I, None),
         ):
             self.gives(told, settled_ratio, readings, look, other)
 
@@ -246,13 +255,19 @@ class RangesTest(Case):
         dark, one = (("level", I, (0, 1)),), (("level", I, (1, 1)), ("level", Q, (2, 1)))
         ray = (("level", Q, (0, 1)),)
         for readings, reading, told in (
-            (dark, ("level", V, (0, 1)), True), (dark, ("level", V, (1, 9)), False), (dark, ("ratio", Q, V, (-7, 3)), True),
+            (dark, ("level", V, (0, 1)), True), (dark, ("level", V, (1, 9)), False),
+            (dark, ("ratio", Q, V, (-7, 3)), True),
             (dark, ("more", Q, V, (0, 1)), True), (one, ("level", U, (1, 1)), True), (one, ("level", U, (0, 1)), False),
-            (one, ("ratio", U, V, (1, 1)), True), (one, ("ratio", Q, V, (2, 1)), True), (one, ("more", Q, V, (1, 1)), True),
-            (one, ("more", V, Q, (1, 1)), False), (ray, ("ratio", U, I, (1, 1)), True), (ray, ("level", U, (0, 1)), False),
-            (ray, ("more", V, I, (0, 1)), True), (ray, ("more", V, I, (1, 1)), False), (ray, ("ratio", Q, U, (0, 1)), True),
-            (ray, ("level", Q, (0, 1)), True), (ray, ("ratio", U, I, (2, 1)), False), ((), ("ratio", I, I, (1, 1)), True),
-            ((), ("ratio", I, I, (2, 1)), False), (BRIGHT, ("level", Q, (1, 1)), False), (BRIGHT, ("level", I, (2, 1)), False),
+            (one, ("ratio", U, V, (1, 1)), True), (one, ("ratio", Q, V, (2, 1)), True),
+            (one, ("more", Q, V, (1, 1)), True),
+            (one, ("more", V, Q, (1, 1)), False), (ray, ("ratio", U, I, (1, 1)), True),
+            (ray, ("level", U, (0, 1)), False),
+            (ray, ("more", V, I, (0, 1)), True), (ray, ("more", V, I, (1, 1)), False),
+            (ray, ("ratio", Q, U, (0, 1)), True),
+            (ray, ("level", Q, (0, 1)), True), (ray, ("ratio", U, I, (2, 1)), False),
+            ((), ("ratio", I, I, (1, 1)), True),
+            ((), ("ratio", I, I, (2, 1)), False), (BRIGHT, ("level", Q, (1, 1)), False),
+            (BRIGHT, ("level", I, (2, 1)), False),
         ):
             self.gives(told, is_kept, readings, reading)
 
@@ -279,8 +294,10 @@ class RangesTest(Case):
         away = ("level", (1, -1, 0, 0), (0, 1))
         for readings, told in (
             ((), ()), (BRIGHT, (0,)), (BRIGHT * 8, (0,)), ((q, i), (0, 1)), ((q, i, u), (0, 1)), ((q, u, i), (0, 2)),
-            ((u, q, i), (1, 2)), ((u, i, q), (1, 2)), ((q, away), (0, 1)), ((q, i, away), (0, 1)), ((away, q, i), (0, 1)),
-            ((("more", I, I, (0, 1)), q), (1,)), ((q, ("more", Q, I, (1, 1)), i), (0, 1)), ((("ratio", U, U, (1, 1)),), ()),
+            ((u, q, i), (1, 2)), ((u, i, q), (1, 2)), ((q, away), (0, 1)), ((q, i, away), (0, 1)),
+            ((away, q, i), (0, 1)),
+            ((("more", I, I, (0, 1)), q), (1,)), ((q, ("more", Q, I, (1, 1)), i), (0, 1)),
+            ((("ratio", U, U, (1, 1)),), ()),
             ((q, i, ("ratio", U, V, (1, 1))), (0, 1)), ((("ratio", U, V, (1, 1)), q, i), (1, 2)),
         ):
             with self.subTest(readings=readings):
@@ -289,8 +306,10 @@ class RangesTest(Case):
     def test_tuples_that_say_the_same(self):
         draw, seen = Draw(9), {True: 0, False: 0}
         alike = [
-            ((), (("ratio", I, I, (1, 1)),)), ((("level", I, (0, 1)),), (("ratio", Q, I, (-1, 1)),)), (NONE, (("level", Q, (-3, 1)),)),
-            (BRIGHT, BRIGHT * 8), ((("level", Q, (0, 1)),), (("ratio", (1, -1, 0, 0), I, (2, 1)),)), (NONE, BRIGHT + NONE),
+            ((), (("ratio", I, I, (1, 1)),)), ((("level", I, (0, 1)),), (("ratio", Q, I, (-1, 1)),)),
+            (NONE, (("level", Q, (-3, 1)),)),
+            (BRIGHT, BRIGHT * 8), ((("level", Q, (0, 1)),), (("ratio", (1, -1, 0, 0), I, (2, 1)),)),
+            (NONE, BRIGHT + NONE),
             ((("level", Q, (0, 1)),), (("ratio", U, I, (1, 1)), ("level", Q, (0, 1)), ("ratio", V, I, (1, 1)))),
             ((("level", I, (1, 1)), ("level", Q, (2, 1))), tuple([("level", look, level) for look, level in (
                 (I, (1, 1)), (Q, (2, 1)), (U, (1, 1)), (V, (1, 1)))])),
@@ -299,7 +318,8 @@ class RangesTest(Case):
             ((("ratio", I, I, (2, 1)),), (("level", I, (0, 1)),)), (NONE, (("more", I, I, (1, 1)),)),
         ]
         unlike = [
-            ((), BRIGHT), (BRIGHT, NONE), (NONE, ()), (BRIGHT, (("level", I, (2, 1)),)), (BRIGHT, BRIGHT + HALF), (HALF, ()),
+            ((), BRIGHT), (BRIGHT, NONE), (NONE, ()), (BRIGHT, (("level", I, (2, 1)),)), (BRIGHT, BRIGHT + HALF),
+            (HALF, ()),
             ((("level", Q, (0, 1)),), (("level", U, (0, 1)),)), ((("level", I, (0, 1)),), (("level", Q, (0, 1)),)),
             ((("level", I, (1, 1)), ("level", Q, (2, 1))), (("level", I, (1, 1)), ("level", U, (2, 1)))),
             ((("level", I, (1, 1)), ("level", Q, (2, 1))), (("level", I, (2, 1)), ("level", Q, (4, 1)))),
@@ -339,7 +359,8 @@ class RangesTest(Case):
 
     def test_no_light_fits_is_told_last(self):
         for function, rest, error, wrong in (
-            (level_range, (I,), InvalidLook, (None,)), (is_settled, (I,), InvalidLook, (None,)), (settled_level, (I,), InvalidLook, (None,)),
+            (level_range, (I,), InvalidLook, (None,)), (is_settled, (I,), InvalidLook, (None,)),
+            (settled_level, (I,), InvalidLook, (None,)),
             (settled_ratio, (I, Q), InvalidLook, (I, None)), (is_kept, (LEVEL,), InvalidReading, (None,)),
         ):
             for readings in (NONE, NONE + BRIGHT, (("more", I, I, (1, 2)),)):
@@ -354,7 +375,9 @@ class RangesTest(Case):
 
     def test_numbers_with_many_figures(self):
         huge = 10 ** 399
-        readings = (("level", (huge + 1, 1, 0, huge - 1), (huge, huge + 7)), ("ratio", (huge, 2, 0, 1), LOOK, (huge + 1, 2)))
+        readings = (
+            ("level", (huge + 1, 1, 0, huge - 1), (huge, huge + 7)), ("ratio", (huge, 2, 0, 1), LOOK, (huge + 1, 2)),
+        )
         for many in (0, 1, 2):
             low, _, high, _ = level_range(readings[:many], (huge, huge - 1, 3, 0))
             self.assertTrue(is_surd(low) and (high is None or is_surd(high)))

@@ -46,7 +46,8 @@ class ReadingsTest(Case):
     def test_is_reading(self):
         for value in (
             LEVEL, ("level", I, (-1, 3)), ("level", Q, (0, 1)), ("ratio", I, Q, (0, 1)), ("ratio", Q, I, (-5, 2)),
-            ("ratio", I, I, (1, 1)), ("more", I, Q, (-1, 2)), ("more", Q, Q, (0, 1)), ("more", (BIG, 1, 0, 0), I, (BIG, 1)),
+            ("ratio", I, I, (1, 1)), ("more", I, Q, (-1, 2)), ("more", Q, Q, (0, 1)),
+            ("more", (BIG, 1, 0, 0), I, (BIG, 1)),
         ):
             self.gives(True, is_reading, value)
         for value in WRONG_READINGS:
@@ -139,19 +140,32 @@ class ReadingsTest(Case):
     def test_edges_of_fitting(self):
         one = ("level", Q, (1, 1))
         for readings, sort, dark, plain, pure in (
-            ((("ratio", I, I, (1, 1)),), "endless", True, True, True), ((("ratio", I, I, (2, 1)),), "one", True, False, False),
-            ((("ratio", Q, I, (0, 1)),), "endless", True, False, True), ((("ratio", I, Q, (0, 1)),), "one", True, False, False),
-            ((("ratio", Q, I, (-1, 1)),), "one", True, False, False), ((("ratio", Q, I, (2, 1)),), "endless", True, False, True),
-            ((("ratio", Q, I, (3, 1)),), "one", True, False, False), ((("ratio", Q, I, (1, 1)),), "endless", True, True, True),
-            ((("more", I, I, (0, 1)),), "endless", True, True, True), ((("more", I, I, (1, 1)),), "none", False, False, False),
-            ((("more", Q, I, (-1, 1)),), "endless", False, False, True), ((("more", I, Q, (1, 2)),), "endless", False, False, True),
-            ((("more", Q, (1, -1, 0, 0), (0, 1)),), "endless", True, True, True), ((one,) * 8, "endless", False, True, True),
-            ((("level", I, (0, 1)),) * 8, "one", True, False, False), ((("level", Q, (0, 1)),), "endless", True, False, True),
-            ((("level", Q, (-1, BIG)),), "none", False, False, False), ((("level", I, (BIG, 1)),), "some", False, True, True),
-            ((one, ("level", I, (1, 2))), "one", False, False, True), ((one, ("level", I, (1, 1))), "some", False, True, True),
+            ((("ratio", I, I, (1, 1)),), "endless", True, True, True),
+            ((("ratio", I, I, (2, 1)),), "one", True, False, False),
+            ((("ratio", Q, I, (0, 1)),), "endless", True, False, True),
+            ((("ratio", I, Q, (0, 1)),), "one", True, False, False),
+            ((("ratio", Q, I, (-1, 1)),), "one", True, False, False),
+            ((("ratio", Q, I, (2, 1)),), "endless", True, False, True),
+            ((("ratio", Q, I, (3, 1)),), "one", True, False, False),
+            ((("ratio", Q, I, (1, 1)),), "endless", True, True, True),
+            ((("more", I, I, (0, 1)),), "endless", True, True, True),
+            ((("more", I, I, (1, 1)),), "none", False, False, False),
+            ((("more", Q, I, (-1, 1)),), "endless", False, False, True),
+            ((("more", I, Q, (1, 2)),), "endless", False, False, True),
+            ((("more", Q, (1, -1, 0, 0), (0, 1)),), "endless", True, True, True),
+            ((one,) * 8, "endless", False, True, True),
+            ((("level", I, (0, 1)),) * 8, "one", True, False, False),
+            ((("level", Q, (0, 1)),), "endless", True, False, True),
+            ((("level", Q, (-1, BIG)),), "none", False, False, False),
+            ((("level", I, (BIG, 1)),), "some", False, True, True),
+            ((one, ("level", I, (1, 2))), "one", False, False, True),
+            ((one, ("level", I, (1, 1))), "some", False, True, True),
             ((one, ("level", I, (BIG - 1, 2 * BIG))), "none", False, False, False),
             ((one, ("level", I, (BIG + 1, 2 * BIG))), "some", False, False, True),
-            ((one, ("ratio", (1, 0, 1, 0), I, (1, 1)), ("ratio", (1, 0, 0, 1), I, (1, 1))), "endless", False, True, True),
+            (
+                (one, ("ratio", (1, 0, 1, 0), I, (1, 1)), ("ratio", (1, 0, 0, 1), I, (1, 1))), "endless", False, True,
+                True,
+            ),
             ((("ratio", Q, I, (1, 1)), ("ratio", (1, 0, 1, 0), I, (1, 1)), ("ratio", (1, 0, 0, 1), I, (1, 1))), "endless",
              True, True, False),
         ):

@@ -219,18 +219,23 @@ WRONG_RIGS = list(STRANGE) + [
 LOOK = (2, 1, 0, 1)
 LEVEL = ("level", LOOK, (1, 2))
 WRONG_READINGS = list(STRANGE) + [
-    0, (), ("level",), ("level", LOOK), ("level", LOOK, (1, 2), (1, 2)), ["level", LOOK, (1, 2)], ("Level", LOOK, (1, 2)),
+    0, (), ("level",), ("level", LOOK), ("level", LOOK, (1, 2), (1, 2)), ["level", LOOK, (1, 2)],
+    ("Level", LOOK, (1, 2)),
     ("level ", LOOK, (1, 2)), (b"level", LOOK, (1, 2)), (PRICKLY, LOOK, (1, 2)), ("level", PRICKLY, (1, 2)),
     ("level", LOOK, PRICKLY), ("level", LOOK, None), ("level", LOOK, 1), ("level", LOOK, True), ("level", LOOK, (2, 4)),
     ("level", LOOK, [1, 2]), ("level", LOOK, (1, 0)), ("level", LOOK, LOOK), ("level", (2, 2, 0, 2), (1, 2)),
-    ("level", (0, 0, 0, 0), (0, 1)), ("level", (1, 1, 1, 0), (1, 2)), ("level", (1, 0, 0), (1, 2)), ("level", (1, 2), LOOK),
+    ("level", (0, 0, 0, 0), (0, 1)), ("level", (1, 1, 1, 0), (1, 2)), ("level", (1, 0, 0), (1, 2)),
+    ("level", (1, 2), LOOK),
     ("level", list(LOOK), (1, 2)), ("level", (True, 0, 0, 0), (1, 2)), ("level", (-1, 0, 0, 0), (1, 2)),
     ("level", LOOK, LOOK, (1, 2)), ("ratio", LOOK, (1, 2)), ("ratio", LOOK, LOOK), ("ratio", LOOK, LOOK, LOOK),
     ("ratio", LOOK, LOOK, (2, 4)), ("ratio", LOOK, (2, 0, 0, 0), (1, 2)), ("ratio", (2, 0, 0, 0), LOOK, (1, 2)),
     ("ratio", LOOK, LOOK, (1, 2), (1, 2)), ("ratio", LOOK, None, (1, 2)), ("ratio", None, LOOK, (1, 2)), ("ratio",),
-    ["ratio", LOOK, LOOK, (1, 2)], ("ratio", LOOK, LOOK, None), ("ratio", LOOK, PRICKLY, (1, 2)), ("ratio", LOOK, LOOK, 0),
+    ["ratio", LOOK, LOOK, (1, 2)], ("ratio", LOOK, LOOK, None), ("ratio", LOOK, PRICKLY, (1, 2)),
+    ("ratio", LOOK, LOOK, 0),
     ("more", LOOK, (1, 2)), ("more", LOOK, LOOK), ("more", LOOK, LOOK, (2, 4)), ("more", LOOK, (1, 1, 1, 0), (1, 2)),
     ("more", (1, 1, 1, 0), LOOK, (1, 2)), ("more", LOOK, LOOK, (1, 2), ()), ("more", LOOK, LOOK, True), ("more",),
-    ("less", LOOK, LOOK, (1, 2)), ("more", LOOK, LOOK, [1, 2]), ("", LOOK, (1, 2)), (LOOK, (1, 2)), (("level", LOOK, (1, 2)),),
-    ("more", list(LOOK), LOOK, (1, 2)), ("more", LOOK, list(LOOK), (1, 2)), (LOOK, LOOK, LOOK, (1, 2)), (1, LOOK, (1, 2)),
+    ("less", LOOK, LOOK, (1, 2)), ("more", LOOK, LOOK, [1, 2]), ("", LOOK, (1, 2)), (LOOK, (1, 2)),
+    (("level", LOOK, (1, 2)),),
+    ("more", list(LOOK), LOOK, (1, 2)), ("more", LOOK, list(LOOK), (1, 2)), (LOOK, LOOK, LOOK, (1, 2)),
+    (1, LOOK, (1, 2)),
 ]
